@@ -1,0 +1,1 @@
+"""Lossway: two stations over a net that loses, doubles, reorders and delays."""

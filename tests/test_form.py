@@ -1,0 +1,103 @@
+"""The form of the code: those rules of the language that a short look can check."""
+
+import ast
+import unittest
+from pathlib import Path
+
+PACKAGE = Path(__file__).resolve().parent.parent / "lossway"
+DECORATORS = ("property", "staticmethod", "classmethod")
+ARITHMETIC = ("add", "sub", "mul", "floordiv", "mod", "and", "or", "xor", "lshift", "rshift")
+OPERATORS = (
+    "init", "eq", "repr", "str", "len", "enter", "exit", "call", "iter", "lt", "le", "gt", "ge", "ne", "pow", "ipow",
+    "neg", "pos", "invert", "abs", "bool", "contains", "getitem", "setitem",
+    *ARITHMETIC, *["r" + word for word in ARITHMETIC], *["i" + word for word in ARITHMETIC],
+)
+BUILTINS = (
+    "len", "range", "enumerate", "zip", "min", "max", "sum", "abs", "sorted", "reversed", "int", "str", "bool",
+    "list", "tuple", "dict", "set", "isinstance", "ord", "repr", "any", "all", "divmod", "pow", "getattr", "hasattr",
+    "setattr", "iter", "next", "map", "type", "Exception", "ValueError", "TypeError", "KeyError", "IndexError",
+    "LookupError", "ZeroDivisionError", "ArithmeticError", "OverflowError", "RuntimeError", "NotImplementedError",
+    "AttributeError", "StopIteration", "NotImplemented", "property", "staticmethod", "classmethod", "super",
+)
+LIBRARY = {
+    "heapq": ("heappush", "heappop", "heapify", "heapreplace", "heappushpop"),
+    "math": ("gcd", "lcm", "isqrt", "comb", "perm", "factorial"),
+    "itertools": ("product", "combinations", "permutations", "chain", "accumulate", "pairwise", "islice",
+                  "zip_longest"),
+    "collections": ("defaultdict", "deque"),
+}
+BARRED = (ast.AsyncFunctionDef, ast.AsyncFor, ast.AsyncWith, ast.Await, ast.Div, ast.MatMult, ast.TryStar)
+
+
+def files():
+    return sorted(PACKAGE.glob("*.py"))
+
+
+def trees():
+    return [(path.name, ast.parse(path.read_text(encoding="utf-8"))) for path in files()]
+
+
+def nodes(kind):
+    return [(name, node) for name, tree in trees() for node in ast.walk(tree) if isinstance(node, kind)]
+
+
+class FormTest(unittest.TestCase):
+    def test_the_folder_holds_plain_files_alone(self):
+        names = [path.name for path in PACKAGE.iterdir() if path.name != "__pycache__"]
+        self.assertEqual(sorted(names), [path.name for path in files()])
+        self.assertIn("__init__.py", names)
+        for name in names:
+            self.assertRegex(name, r"\A[a-z_][a-z0-9_]*\.py\Z")
+
+    def test_lines_and_characters(self):
+        for path in files():
+            text = path.read_text(encoding="utf-8")
+            lines = text.splitlines()
+            self.assertLessEqual(len(lines), 399, path.name)
+            self.assertLessEqual(max([len(line) for line in lines]), 120, path.name)
+            self.assertEqual([c for c in text if c != "\n" and not " " <= c <= "~"], [], path.name)
+
+    def test_functions_are_small(self):
+        for name, node in nodes(ast.FunctionDef):
+            self.assertLessEqual(node.end_lineno - node.lineno + 1, 40, (name, node.name))
+
+    def test_imports_name_the_package_or_the_allowed_library(self):
+        self.assertEqual(nodes(ast.Import), [])
+        for name, node in nodes(ast.ImportFrom):
+            words = [alias.name for alias in node.names]
+            if node.module in LIBRARY:
+                self.assertEqual([word for word in words if word not in LIBRARY[node.module]], [], name)
+            else:
+                folder, _, rest = node.module.partition(".")
+                self.assertEqual((node.level, folder), (0, "lossway"), name)
+                self.assertTrue((PACKAGE / (rest + ".py")).is_file(), name)
+                self.assertNotIn("*", words, name)
+
+    def test_module_level_holds_no_code(self):
+        for name, tree in trees():
+            for node in tree.body:
+                if not (isinstance(node, ast.Expr) and isinstance(node.value, ast.Constant)):
+                    self.assertIsInstance(node, (ast.ImportFrom, ast.FunctionDef, ast.ClassDef, ast.Assign), name)
+
+    def test_only_the_allowed_decorators_and_operators(self):
+        for name, node in nodes((ast.FunctionDef, ast.ClassDef)):
+            for mark in node.decorator_list:
+                setter = isinstance(mark, ast.Attribute) and mark.attr == "setter"
+                self.assertTrue(setter or mark.id in DECORATORS, (name, node.name))
+            if node.name.startswith("__"):
+                self.assertIn(node.name.strip("_"), OPERATORS, name)
+
+    def test_only_the_allowed_builtins(self):
+        named = vars(__import__("builtins"))
+        for name, node in nodes(ast.Name):
+            if node.id in named:
+                self.assertIn(node.id, BUILTINS, (name, node.lineno))
+
+    def test_what_the_language_does_not_have(self):
+        self.assertEqual([(name, node) for name, node in nodes(BARRED)], [])
+        for name, node in nodes(ast.Constant):
+            self.assertNotIsInstance(node.value, (float, complex), name)
+
+
+if __name__ == "__main__":
+    unittest.main()
