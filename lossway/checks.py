@@ -13,6 +13,11 @@ def is_between(value, low, high):
     return is_integer(value) and low <= value <= high
 
 
+def is_at_least(value, low):
+    """True for an integer of at least low."""
+    return is_integer(value) and low <= value
+
+
 def is_byte(value):
     """True for an integer from 0 to 255."""
     return is_between(value, 0, 255)

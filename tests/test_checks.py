@@ -3,7 +3,7 @@
 import unittest
 
 from lossway.checks import (
-    is_between, is_byte, is_integer, is_long, is_port, is_sequence, is_word, require_data, require_limit,
+    is_at_least, is_between, is_byte, is_integer, is_long, is_port, is_sequence, is_word, require_data, require_limit,
 )
 from lossway.errors import InvalidNumber, InvalidSetting
 from tests.values import NOT_INTEGERS, NOT_SEQUENCES, caught
@@ -28,6 +28,13 @@ class ChecksTest(unittest.TestCase):
                 self.assertIs(check(value), wanted, (check, value))
             for value in NOT_INTEGERS:
                 self.assertIs(check(value), False, (check, value))
+
+    def test_at_least(self):
+        for low in (-2, 0, 5):
+            for value, wanted in ((low - 1, False), (low, True), (low + 1, True), (10 ** 12, True)):
+                self.assertIs(is_at_least(value, low), wanted)
+            for value in NOT_INTEGERS:
+                self.assertIs(is_at_least(value, low), False, value)
 
     def test_sequences_are_lists_and_tuples(self):
         for value in ([], (), [1], (1, "a")):
