@@ -111,6 +111,11 @@ class Segment:
         return isinstance(other, Segment) and self.row() == other.row()
 
     def __str__(self):
-        ports = f"{self.source:>5}>{self.target:<5}"
-        numbers = f"seq {self.seq:>10} ack {self.ack:>10} win {self.window:>5} len {len(self.data):>4}"
-        return f"{ports} {self.flags:<5} {numbers}"
+        return " ".join([
+            f"{self.source:>5}>{self.target:<5}",
+            f"{self.flags:<5}",
+            f"seq {self.seq:>10}",
+            f"ack {self.ack:>10}",
+            f"win {self.window:>5}",
+            f"len {len(self.data):>4}",
+        ])

@@ -95,6 +95,8 @@ class PackTest(unittest.TestCase):
             self.assertEqual(pack(segment), summed(pack(segment)))
         # 65400 + 2 * 68 is exactly 65536, which the second word alone cannot hold.
         self.assertEqual(pack(Segment(65400, 68))[17:19], [1, 0])
+        self.assertEqual(unpack(pack(Segment(65400, 68))), Segment(65400, 68))
+        self.assertEqual(caught(WrongSum, unpack, [*pack(Segment(65400, 68))[:17], 0, 0]), {"place": 17})
 
     def test_the_result_is_fresh(self):
         segment = Segment(1, 2, data=[3])
