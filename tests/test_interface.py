@@ -1,0 +1,75 @@
+"""The interface: each name stands in its own file, each method in the body of its own class."""
+
+import inspect
+import unittest
+from importlib import import_module
+
+FUNCTIONS = {
+    "sums": {"check_sum": "(words)"},
+    "words": {"pack": "(segment)", "unpack": "(words)"},
+}
+CLASSES = {
+    "ring": {"Ring": {
+        "__init__": "(self, size)", "wrap": "(self, offset)", "unwrap": "(self, number, near)",
+        "gap": "(self, low, high)", "before": "(self, low, high)", "within": "(self, low, number, high)",
+        "of_bits": "(cls, bits)", "__contains__": "(self, number)", "__eq__": "(self, other)",
+    }},
+    "segments": {"Segment": {
+        "__init__": "(self, source, target, *, tag=0, mark=0, flags='', seq=0, ack=0, window=0, urgent=0, piece=0, "
+                    "cookie=(), blocks=(), data=())",
+        "extent": None, "row": "(self)", "changed": "(self, **fields)", "of_row": "(row)",
+        "__eq__": "(self, other)", "__str__": "(self)",
+    }},
+    "spans": {"Spans": {
+        "__init__": "(self, *pairs)", "rows": "(self)", "total": "(self)", "put": "(self, low, high)",
+        "drop": "(self, low, high)", "holding": "(self, offset)", "highest": "(self, count)",
+        "gaps": "(self, low, high)", "__or__": "(self, other)", "__and__": "(self, other)",
+        "__sub__": "(self, other)", "__contains__": "(self, offset)", "__eq__": "(self, other)", "__len__": "(self)",
+    }},
+    "outbox": {"Outbox": {
+        "__init__": "(self, limit)", "limit": None, "free": None, "bound": None, "put": "(self, data)",
+        "urge": "(self, data)", "shut": "(self)", "cut": "(self, low, high)", "release": "(self, offset)",
+        "resize": "(self, limit)",
+    }},
+    "inbox": {"Inbox": {
+        "__init__": "(self, limit)", "limit": None, "edge": None, "room": None, "ready": None, "ended": None,
+        "expected": None, "urgent_count": None, "take": "(self, offset, data)", "finish": "(self, offset)",
+        "read": "(self, count)", "told_runs": "(self)", "mark_urgent": "(self, offset)", "resize": "(self, limit)",
+    }},
+}
+
+
+class InterfaceTest(unittest.TestCase):
+    def test_functions(self):
+        for file, functions in FUNCTIONS.items():
+            for name, signature in functions.items():
+                function = getattr(import_module("lossway." + file), name)
+                self.assertEqual(function.__module__, "lossway." + file)
+                self.assertEqual(str(inspect.signature(function)), signature, name)
+
+    def test_classes(self):
+        for file, classes in CLASSES.items():
+            for name, members in classes.items():
+                kind = getattr(import_module("lossway." + file), name)
+                self.assertEqual(kind.__module__, "lossway." + file)
+                for member, signature in members.items():
+                    self.check_member(vars(kind)[member], signature)
+
+    def check_member(self, member, signature):
+        if signature is None:
+            self.assertIsInstance(member, property)
+        else:
+            function = getattr(member, "__func__", member)
+            self.assertEqual(str(inspect.signature(function)), signature)
+
+    def test_kinds_of_methods(self):
+        from lossway.ring import Ring
+        from lossway.segments import Segment
+        from lossway.spans import Spans
+        self.assertIsInstance(vars(Ring)["of_bits"], classmethod)
+        self.assertIsInstance(vars(Segment)["of_row"], staticmethod)
+        self.assertTrue(inspect.isgeneratorfunction(Spans.gaps))
+
+
+if __name__ == "__main__":
+    unittest.main()
