@@ -7,6 +7,11 @@ from importlib import import_module
 FUNCTIONS = {
     "sums": {"check_sum": "(words)"},
     "words": {"pack": "(segment)", "unpack": "(words)"},
+    "curves": {"control_of": "(kind, unit)"},
+}
+CONTROL = {
+    "on_ack": "(self, count, flight, now)", "grow": "(self, count, now)", "on_loss": "(self, flight, now)",
+    "on_expiry": "(self, flight, now)", "on_sample": "(self, ticks)",
 }
 CLASSES = {
     "ring": {"Ring": {
@@ -36,6 +41,22 @@ CLASSES = {
         "expected": None, "urgent_count": None, "take": "(self, offset, data)", "finish": "(self, offset)",
         "read": "(self, count)", "told_runs": "(self)", "mark_urgent": "(self, offset)", "resize": "(self, limit)",
     }},
+    "estimate": {"Estimate": {
+        "__init__": "(self, low, high)", "timeout": None, "sample": "(self, ticks)", "backed": "(self, count)",
+    }},
+    "alarms": {"Alarms": {
+        "arm": "(self, name, when)", "disarm": "(self, name)", "when": "(self, name)", "due": "(self, now)",
+        "soonest": "(self)", "__contains__": "(self, name)", "__len__": "(self)",
+    }},
+    "finder": {"Finder": {
+        "__init__": "(self, low, high)", "trial": "(self)", "passed": "(self, count)", "failed": "(self, count)",
+    }},
+    "control": {
+        "Control": {"__init__": "(self, unit)", "starting": None, **CONTROL},
+        "Fixed": {"__init__": "(self, unit, pieces=8)", **CONTROL},
+        "Climb": CONTROL,
+    },
+    "curves": {"Curve": CONTROL, "Delay": CONTROL},
 }
 
 
