@@ -11,8 +11,7 @@ class Ring:
     GREATEST = 4294967296
 
     def __init__(self, size):
-        # A power of two has a single bit, which the number below it does not have.
-        if not is_between(size, Ring.LEAST, Ring.GREATEST) or size & (size - 1) != 0:
+        if not is_size(size):
             raise InvalidSetting("size")
         self.size = size
 
@@ -61,3 +60,9 @@ class Ring:
     def _require(self, number):
         if number not in self:
             raise InvalidNumber(number)
+
+
+def is_size(value):
+    """True for the size of a ring."""
+    # A power of two has a single bit, which the number below it does not have.
+    return is_between(value, Ring.LEAST, Ring.GREATEST) and value & (value - 1) == 0

@@ -1,0 +1,18 @@
+"""Listeners: the ports at which a station answers openings."""
+
+
+class Listener:
+    """The connections of one port that no user has accepted yet, by their handles."""
+
+    def __init__(self, backlog):
+        self.backlog = backlog
+        self.waiting = []
+        # In the order in which they became ready, while those that wait have the order of their handles.
+        self.readied = []
+
+    def drop(self, handle):
+        """Forget a connection."""
+        if handle in self.waiting:
+            self.waiting.remove(handle)
+        if handle in self.readied:
+            self.readied.remove(handle)
