@@ -6,7 +6,7 @@ from lossway.words import unpack
 
 
 class Pair:
-    """Two stations that share a clock."""
+    """Two stations that share a clock; what they send is looked at on its way."""
 
     def __init__(self, first, second=None, **choices):
         self.stations = (Station(first), Station(first if second is None else second))
@@ -14,11 +14,28 @@ class Pair:
         self.now = 0
         self.sent = ([], [])
         self.results = ([], [])
+        # The lists as they are given to the net, for comparing whole runs.
+        self.lists = ([], [])
 
     def carry(self, side):
+        segments = []
         for words in self.stations[side].drain():
-            self.sent[side].append(unpack(words))
+            segments.append(unpack(words))
+            self.lists[side].append((self.now, words))
             self.net.send(side, words, self.now)
+        self.sent[side].extend(segments)
+        self.check_flights(side, segments)
+
+    def check_flights(self, side, segments):
+        """What is in flight after a method that sent offsets fits the control's window, or is the last segment."""
+        last = {}
+        for segment in segments:
+            if segment.extent > 0 and "S" not in segment.flags:
+                last[segment.mark] = segment.extent
+        for connection in self.stations[side]._connections.values():
+            if connection.mark in last:
+                fits = connection.flight <= connection.control.window
+                assert fits or connection.flight == last[connection.mark], (side, connection.mark)
 
     def call(self, side, name, *values, **options):
         result = getattr(self.stations[side], name)(*values, **options)

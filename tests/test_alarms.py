@@ -5,10 +5,10 @@ from itertools import permutations
 
 from lossway.alarms import ALARMS, Alarms
 from lossway.errors import InvalidNumber, InvalidSetting
-from tests.values import NOT_INTEGERS, NOT_STRINGS, caught
+from tests.values import NOT_INTEGERS, NOT_STRINGS, Same, caught
 
 NAMES = ("resend", "probe", "delay", "pace", "alive", "rest")
-WRONG_NAMES = ("", "Resend", "resend ", "res", 0, -1, *NOT_STRINGS)
+WRONG_NAMES = ("", "Resend", "resend ", "res", 0, -1, Same(), *NOT_STRINGS)
 
 
 def look(alarms):

@@ -5,9 +5,9 @@ from random import Random
 
 from lossway.control import Climb, Control, Fixed
 from lossway.curves import KINDS, Curve, Delay, control_of
-from lossway.errors import InvalidSetting
+from lossway.errors import InvalidNumber, InvalidSetting
 from tests.test_control import GREATEST, at_threshold, look
-from tests.values import NOT_STRINGS, caught
+from tests.values import NOT_INTEGERS, NOT_STRINGS, Same, caught
 
 
 def born(unit, peak, window, span, when):
@@ -132,6 +132,14 @@ class CurveTest(unittest.TestCase):
         curve.grow(65535, 8)
         self.assertEqual(curve.window, 100)
 
+    def test_wrong_counts(self):
+        curve = born(4, 100, 50, 8, 17)
+        before = vars(curve).copy()
+        for count in (0, -1, 65536, *NOT_INTEGERS):
+            self.assertIs(caught(InvalidNumber, curve.grow, count, 25)["number"], count)
+            self.assertIs(caught(InvalidNumber, curve.on_ack, count, 60, 25)["number"], count)
+        self.assertEqual(vars(curve), before)
+
     def test_samples_change_nothing(self):
         curve = born(4, 100, 70, 8, 17)
         before = vars(curve).copy()
@@ -252,7 +260,7 @@ class ControlOfTest(unittest.TestCase):
         self.assertEqual(control_of("fixed", 5).window, 40)
 
     def test_wrong_kinds(self):
-        for kind in ("", "base", "Climb", "climb ", Control, Climb, Climb(4), *NOT_STRINGS):
+        for kind in ("", "base", "Climb", "climb ", Control, Climb, Climb(4), Same(), *NOT_STRINGS):
             self.assertEqual(caught(InvalidSetting, control_of, kind, 5), {"setting": "control"})
             self.assertEqual(caught(InvalidSetting, control_of, kind, 0), {"setting": "control"})
 

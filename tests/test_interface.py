@@ -57,6 +57,30 @@ CLASSES = {
         "Climb": CONTROL,
     },
     "curves": {"Curve": CONTROL, "Delay": CONTROL},
+    "settings": {"Settings": {
+        "__init__": "(self, **choices)", "row": "(self)", "changed": "(self, **choices)", "__eq__": "(self, other)",
+    }},
+    "connection": {"Connection": {
+        "opening": "(cls, settings, source, target, *, mark, first, now)",
+        "answering": "(cls, settings, segment, *, mark, first, now)", "resumed": "(cls, settings, segment, *, now)",
+        "flight": None, "confirmed": None, "at_end": None, "accepts": "(self, segment)",
+        "deliver": "(self, segment, now)", "tick": "(self, now)", "write": "(self, data, now)",
+        "urge": "(self, data, now)", "read": "(self, count, now)", "resize": "(self, limit, now)",
+        "close": "(self, now)", "abort": "(self, now)", "challenge": "(self, now)", "drain": "(self)",
+    }},
+    "station": {"Station": {
+        "__init__": "(self, settings, *, era=1)", "listen": "(self, port, *, backlog=2)", "unlisten": "(self, port)",
+        "connect": "(self, target, *, source=None, first=None)", "accept": "(self, port)",
+        "write": "(self, handle, data)", "urge": "(self, handle, data)", "read": "(self, handle, count)",
+        "close": "(self, handle)", "abort": "(self, handle)", "resize": "(self, handle, limit)",
+        "forget": "(self, handle)", "connection": "(self, handle)", "handles": "(self)", "status": "(self, handle)",
+        "deliver": "(self, words)", "advance": "(self)", "crash": "(self)", "start": "(self)", "drain": "(self)",
+    }},
+    "net": {"Net": {
+        "__init__": "(self, *, life, copies=2, girth=1400, plans=((), ()), common=())", "flying": None,
+        "send": "(self, side, words, now)", "add_fate": "(self, side, fate)", "arrivals": "(self, now)",
+        "sent": "(self, side)",
+    }},
 }
 
 

@@ -4,7 +4,7 @@ import unittest
 
 from lossway.errors import InvalidSetting
 from lossway.settings import Settings
-from tests.values import NOT_INTEGERS, NOT_STRINGS, caught
+from tests.values import NOT_INTEGERS, NOT_STRINGS, Same, caught
 
 DEFAULTS = (
     ("size", 1024), ("inbox", 64), ("outbox", 64), ("piece", 8), ("least", 4), ("control", "climb"), ("low", 2),
@@ -57,14 +57,14 @@ class SettingsTest(unittest.TestCase):
     def test_controls(self):
         for control in ("fixed", "climb", "curve", "delay"):
             self.assertEqual(Settings(control=control).control, control)
-        for control in ("base", "", "Climb", "climb ", *NOT_STRINGS):
+        for control in ("base", "", "Climb", "climb ", Same(), *NOT_STRINGS):
             self.assertEqual(setting(control=control), "control", control)
 
     def test_true_and_false(self):
         for name in ("join", "tell", "seek"):
             for value in (True, False):
                 self.assertIs(getattr(Settings(**{name: value}), name), value)
-            for value in (1, 0, None, "True", "", [], 1.0):
+            for value in (1, 0, None, "True", "", [], 1.0, Same()):
                 self.assertEqual(setting(**{name: value}), name)
 
     def test_a_default_that_another_choice_makes_invalid(self):

@@ -9,6 +9,16 @@ NOT_SEQUENCES = OTHERS + (0, 5, -1, "", "123456")
 NOT_STRINGS = OTHERS + (0, 5, [], ["S"], (), ("S",))
 
 
+class Same:
+    """A value that claims to equal every other one."""
+
+    def __eq__(self, other):
+        return True
+
+    def __hash__(self):
+        return hash("climb")
+
+
 def caught(error, call, *values, **options):
     """The attributes of the error that the call raises, which is of exactly this class."""
     try:
