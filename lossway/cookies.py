@@ -33,5 +33,5 @@ def is_own_cookie(segment, settings, era, used, now):
     ring = Ring(settings.size)
     return (
         mark == segment.tag and peer_mark == segment.mark and first in ring and peer_first in ring
-        and mark // MARKS == era and 1 <= mark - mark_of(era, 0) <= used and born <= now <= born + settings.fresh
+        and mark_of(era, 1) <= mark <= mark_of(era, used) and born <= now <= born + settings.fresh
     )

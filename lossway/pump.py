@@ -52,9 +52,8 @@ def send_lost(connection):
 def end_of_lost(connection, low, high):
     """The offset behind the next segment of a lost run, or low if the peer's window is shut."""
     outbox = connection.outbox
-    end = min(high, outbox.end, low + connection.finder.size)
-    if low < outbox.end:
-        end = max(low, min(end, connection.peer_edge))
+    end = max(low, min(high, outbox.end, low + connection.finder.size, connection.peer_edge))
+    # The finish goes along with the last byte, and alone whatever the peer's window is.
     return end + 1 if end == outbox.end and high > end else end
 
 

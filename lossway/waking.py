@@ -23,10 +23,8 @@ def wake_by(connection, name, now):
     """Handle one alarm."""
     if name == "resend":
         resend(connection, now)
-    elif name == "probe" and probe(connection):
-        connection.pokes += 1
-    elif name == "alive" and probe(connection):
-        connection.alarms.arm("alive", now + connection.settings.alive)
+    elif name in ("probe", "alive"):
+        probe(connection, name, now)
     elif name == "delay" and connection.owed == 1:
         connection.owed = 2
     elif name == "rest":
@@ -39,14 +37,17 @@ def give_up(connection):
     end_connection(connection, "silent")
 
 
-def probe(connection):
-    """Poke a peer that is not known to listen; give up and return False after too many pokes."""
+def probe(connection, name, now):
+    """Poke a peer that is not known to listen, or give up."""
     if connection.unheard == connection.settings.tries:
         give_up(connection)
-        return False
+        return
     connection.unheard += 1
+    if name == "probe":
+        connection.pokes += 1
+    else:
+        connection.alarms.arm("alive", now + connection.settings.alive)
     send_poke(connection)
-    return True
 
 
 def resend(connection, now):

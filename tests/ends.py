@@ -36,7 +36,9 @@ def peer_segment(flags="A", **fields):
 def numbers(seq=1, ack=1, *, flags="A", window=64, data=(), blocks=(), size=SIZE, **fields):
     """A segment of the peer that stands at offsets."""
     blocks = [(own(low, size), own(high, size)) for low, high in blocks]
-    return peer_segment(flags, seq=peer(seq, size), ack=own(ack, size), window=window, data=data, blocks=blocks, **fields)
+    return peer_segment(
+        flags, seq=peer(seq, size), ack=own(ack, size), window=window, data=data, blocks=blocks, **fields,
+    )
 
 
 def call(window=64, piece=8, **fields):

@@ -135,7 +135,8 @@ class ProgressTest(unittest.TestCase):
         connection = flying(6, closed=True)
         self.assertEqual(connection.top, 8)
         connection.deliver(numbers(1, 8), 1)
-        self.assertEqual((connection.una, connection.outbox.base, connection.outbox.end, connection.flight), (8, 7, 7, 0))
+        self.assertEqual((connection.una, connection.flight), (8, 0))
+        self.assertEqual((connection.outbox.base, connection.outbox.end), (7, 7))
 
     def test_samples(self):
         connection = flying(12, now=10)
@@ -167,6 +168,11 @@ class ProgressTest(unittest.TestCase):
         connection.deliver(numbers(1, 13), 3)
         self.assertEqual([row for row in connection.control.told if row[0] == "ack"],
                          [("ack", 4, 8, 1), ("ack", 3, 3, 2), ("ack", 5, 0, 3)])
+
+    def test_a_single_byte_counts(self):
+        connection = flying(12)
+        connection.deliver(numbers(1, 2), 1)
+        self.assertEqual(connection.control.told, [("ack", 1, 11, 1)])
 
     def test_the_opening_does_not_count(self):
         connection = answering()
@@ -334,7 +340,8 @@ class SackedTest(unittest.TestCase):
         connection = flying(40)
         connection.deliver(numbers(1, 1, window=200, blocks=[(3, 5), (20, 24), (30, 40)]), 1)
         # Twelve stored offsets from 22 on.
-        self.assertEqual(sent(connection), [("A", 1, 3, 1), ("A", 5, 9, 1), ("A", 9, 13, 1), ("A", 13, 17, 1), ("A", 17, 20, 1)])
+        rows = [(low, high) for _, low, high, _ in sent(connection)]
+        self.assertEqual(rows, [(1, 3), (5, 9), (9, 13), (13, 17), (17, 20)])
         self.assertEqual(connection.resent, Spans((1, 3), (5, 20)))
         connection.deliver(numbers(1, 1, window=200, blocks=[(30, 41)]), 2)
         self.assertEqual(sent(connection), [])

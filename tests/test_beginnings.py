@@ -8,8 +8,8 @@ from lossway.segments import Segment
 from lossway.settings import Settings
 from lossway.spans import Spans
 from tests.ends import (
-    FIRST, MARK, PEER, PEER_FIRST, SCALARS, SOURCE, TARGET, answer, answering, call, numbers, opened, opening, own, peer,
-    resumed, sent,
+    FIRST, MARK, PEER, PEER_FIRST, SCALARS, SOURCE, TARGET, answer, answering, call, numbers, opened, opening, own,
+    peer, resumed, sent,
 )
 
 NEW = {
@@ -53,8 +53,8 @@ class BeginningsTest(unittest.TestCase):
     def test_answering(self):
         connection = answering(now=5, segment=call(window=9, piece=6))
         self.assertEqual(scalars(connection), {
-            **NEW, "state": "answering", "peer_mark": PEER, "peer_first": PEER_FIRST, "una": 0, "top": 1, "peer_edge": 10,
-            "greatest": 9, "timed_end": 1, "timed_at": 5,
+            **NEW, "state": "answering", "peer_mark": PEER, "peer_first": PEER_FIRST, "una": 0, "top": 1,
+            "peer_edge": 10, "greatest": 9, "timed_end": 1, "timed_at": 5,
         })
         self.check_parts(connection)
         self.assertEqual((connection.control.KIND, connection.control.unit, connection.flight), ("climb", 6, 1))
@@ -75,7 +75,8 @@ class BeginningsTest(unittest.TestCase):
         self.assertEqual((len(connection.alarms), connection.drain()), (0, []))
 
     def test_resumed_takes_all_from_the_cookie(self):
-        segment = Segment(7, 8, tag=1, mark=2, flags="A", seq=3, ack=4, window=5, piece=6, cookie=(21, 22, 23, 3, 25, 26))
+        cookie = (21, 22, 23, 3, 25, 26)
+        segment = Segment(7, 8, tag=1, mark=2, flags="A", seq=3, ack=4, window=5, piece=6, cookie=cookie)
         connection = Connection.resumed(Settings(), segment, now=40)
         self.assertEqual((connection.source, connection.target), (8, 7))
         self.assertEqual((connection.mark, connection.first), (21, 22))
@@ -108,7 +109,9 @@ class BeginningsTest(unittest.TestCase):
         self.assertEqual(opening(now=2, **choices).alarms.when("resend"), 9)
 
     def test_the_unit(self):
-        for piece, told, unit in ((8, 6, 6), (8, 8, 8), (8, 9, 8), (8, 65535, 8), (8, 1, 1), (8, 0, 4), (1400, 1400, 1400)):
+        for piece, told, unit in (
+            (8, 6, 6), (8, 8, 8), (8, 9, 8), (8, 65535, 8), (8, 1, 1), (8, 0, 4), (1400, 1400, 1400),
+        ):
             connection = answering(segment=call(piece=told), piece=piece)
             self.assertEqual((connection.control.unit, connection.finder.size, connection.finder.ceiling), (unit,) * 3)
         for told, unit in ((6, 6), (9, 8), (1, 1), (0, 4)):

@@ -29,8 +29,8 @@ class RollingTest(unittest.TestCase):
     """Each method that takes the time rolls the pace first and settles at last."""
 
     calls = (
-        ("deliver", (numbers(2, 1),)), ("tick", ()), ("write", ([],)), ("urge", ([],)), ("read", (0,)), ("resize", (64,)),
-        ("close", ()), ("challenge", ()), ("abort", ()),
+        ("deliver", (numbers(2, 1),)), ("tick", ()), ("write", ([],)), ("urge", ([],)), ("read", (0,)),
+        ("resize", (64,)), ("close", ()), ("challenge", ()), ("abort", ()),
     )
 
     def test_they_roll_and_settle(self):

@@ -277,8 +277,8 @@ class CookieTest(unittest.TestCase):
 
     def test_each_condition(self):
         for fields, number, wrong in (
-            ({"tag": 65538}, 0, 65537), ({"tag": 65538}, 0, 65539), ({"mark": 901}, 4, 900), ({}, 1, 1024), ({}, 1, 4294967295),
-            ({}, 5, 1024), ({}, 2, 11), ({"flags": ""}, 3, 8), ({"flags": "F"}, 3, 8), ({"target": 81}, 3, 8),
+            ({"tag": 65538}, 0, 65537), ({"tag": 65538}, 0, 65539), ({"mark": 901}, 4, 900), ({}, 1, 1024),
+            ({}, 1, 4294967295), ({}, 5, 1024), ({}, 2, 11), ({"flags": ""}, 3, 8), ({"flags": "F"}, 3, 8), ({"target": 81}, 3, 8),
         ):
             station = listening(backlog=0, now=10)
             segment = cookie_of(station)
@@ -362,6 +362,19 @@ class CookieTest(unittest.TestCase):
             self.assertEqual(len(waiting), backlog)
             station.accept(80)
             self.assertEqual(station.deliver(back(segments[3])), "resumed")
+
+    def test_a_resumed_connection_waits_at_its_listener(self):
+        station = listening(backlog=1)
+        self.assertEqual(station.deliver(opening(source=6, mark=906)), "queued")
+        answer, = sent(station)
+        segment = cookie_of(station)
+        station.deliver(reply(answer, "AR"))
+        self.assertEqual(station.deliver(back(segment)), "resumed")
+        self.assertEqual(station.deliver(opening(source=7, mark=907)), "cookie")
+        station.drain()
+        station.unlisten(80)
+        reset, = sent(station)
+        self.assertEqual((reset.flags, reset.mark), ("AR", segment.mark))
 
     def test_the_pair_may_be_busy(self):
         station = listening(backlog=0)

@@ -70,7 +70,8 @@ class BeginTest(unittest.TestCase):
 
     def test_wrong_fates(self):
         for copy in WRONG_COPIES:
-            self.assertEqual(caught(InvalidFate, Net, life=8, plans=([(1,), [copy]], [])), {"side": 0, "place": 1}, copy)
+            plans = ([(1,), [copy]], [])
+            self.assertEqual(caught(InvalidFate, Net, life=8, plans=plans), {"side": 0, "place": 1}, copy)
             self.assertEqual(caught(InvalidFate, Net, life=8, plans=([], [[2, copy]])), {"side": 1, "place": 0})
             self.assertEqual(caught(InvalidFate, Net, life=8, common=[(), (), (copy,)]), {"side": 2, "place": 2})
         for fate in NOT_SEQUENCES:

@@ -86,6 +86,15 @@ class LostTest(unittest.TestCase):
         connection.peer_edge = 65
         self.assertEqual(pumped(connection, 2), [("A", 5, 13), ("A", 13, 21)])
 
+    def test_a_finish_waits_for_lost_bytes_that_do_not_fit(self):
+        connection = loaded(24, top=25, closed=True, lost=[(1, 9)])
+        connection.control.window = 23
+        self.assertEqual(pumped(connection), [])
+        connection.control.window = 24
+        self.assertEqual(pumped(connection), [("A", 1, 9)])
+        connection.control.window = 25
+        self.assertEqual(pumped(connection), [("AF", 25, 26)])
+
     def test_the_control_holds_lost_bytes(self):
         for window, wanted in ((16, [("A", 9, 17), ("A", 17, 25)]), (15, [("A", 9, 17)]), (8, [("A", 9, 17)]),
                                (7, [("A", 9, 17)])):
@@ -182,8 +191,8 @@ class NewTest(unittest.TestCase):
 
     def test_a_small_piece_at_the_peer_edge(self):
         # The first piece is never held, as nothing is on its way; then 2 * count is compared with greatest.
-        for edge, greatest, wanted in ((4, 64, [("A", 1, 4)]), (12, 7, [("A", 1, 9)]), (12, 6, [("A", 1, 9), ("A", 9, 12)]),
-                                       (12, 5, [("A", 1, 9), ("A", 9, 12)])):
+        both = [("A", 1, 9), ("A", 9, 12)]
+        for edge, greatest, wanted in ((4, 64, [("A", 1, 4)]), (12, 7, both[:1]), (12, 6, both), (12, 5, both)):
             connection = loaded(40)
             connection.peer_edge = edge
             connection.greatest = greatest

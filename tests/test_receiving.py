@@ -101,6 +101,12 @@ class DeliverTest(unittest.TestCase):
         self.assertIs(connection.deliver(peer_segment(""), 7), True)
         self.assertEqual((connection.unheard, connection.alarms.when("alive")), (0, 57))
 
+    def test_the_least_time_of_alive(self):
+        connection = opened(alive=1)
+        self.assertEqual(connection.alarms.when("alive"), 1)
+        connection.deliver(peer_segment(""), 7)
+        self.assertEqual(connection.alarms.when("alive"), 8)
+
     def test_alive_is_armed_in_an_open_state_alone(self):
         connection = answering(alive=50)
         connection.deliver(peer_segment(""), 7)
@@ -120,7 +126,9 @@ class DeliverTest(unittest.TestCase):
 
 class ResetTest(unittest.TestCase):
     def test_resets(self):
-        for connection, reason in ((opened(), "reset"), (answering(), "reset"), (resting(), "done"), (resumed(), "reset")):
+        for connection, reason in (
+            (opened(), "reset"), (answering(), "reset"), (resting(), "done"), (resumed(), "reset"),
+        ):
             connection.drain()
             connection.unheard = 2
             for flags in ("R", "AR", "SAFRU"):
@@ -143,6 +151,15 @@ class ResetTest(unittest.TestCase):
         connection = opened()
         connection.deliver(peer_segment("R"), 20)
         self.assertEqual((connection.period, connection.older), (2, 1))
+
+    def test_nothing_settles_after_a_reset(self):
+        connection = opened(delay=9)
+        connection.write([1, 2, 3], 0)
+        connection.deliver(numbers(1, 1, data=(7,)), 0)
+        connection.drain()
+        self.assertEqual((connection.owed, connection.flight), (1, 3))
+        connection.deliver(peer_segment("R"), 1)
+        self.assertEqual((len(connection.alarms), connection.owed, connection.drain()), (0, 1, []))
 
     def test_the_buffers_stay(self):
         connection = opened()
@@ -238,6 +255,7 @@ class OpeningSegmentTest(unittest.TestCase):
             connection.deliver(segment, 3)
             self.assertEqual((connection.state, connection.una, connection.owed), ("answering", 0, 0))
             self.assertEqual((sent(connection), connection.timed_end), ([("SA", 0, 1, 1)], None))
+            self.assertEqual((connection.lost, connection.flight), (Spans(), 1))
 
     def test_in_the_state_open(self):
         for make in (opened, resumed):

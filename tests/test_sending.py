@@ -137,6 +137,12 @@ class UrgentTest(unittest.TestCase):
         segment = drained(connection)
         self.assertEqual((segment.flags, segment.urgent, segment.data), ("A", 0, (4,)))
 
+    def test_one_urgent_byte(self):
+        connection = opened()
+        connection.urge([7], 1)
+        segment = drained(connection)
+        self.assertEqual((segment.flags, segment.urgent, segment.data), ("AU", 1, (7,)))
+
     def test_urgent_bytes_behind_the_segment(self):
         connection = opened(piece=4, outbox=20, control="fixed")
         connection.outbox.put([1] * 6)

@@ -47,7 +47,9 @@ def reset_of(station, handle):
 
 def look(station):
     """All that can be asked a station that is up."""
-    rows = [(handle, station.status(handle), station.connection(handle).alarms.due(10 ** 9)) for handle in station.handles()]
+    rows = []
+    for handle in station.handles():
+        rows.append((handle, station.status(handle), station.connection(handle).alarms.due(10 ** 9)))
     return (station.era, station.now, station.used, station.down, rows)
 
 
@@ -55,7 +57,7 @@ class BeginTest(unittest.TestCase):
     def test_a_new_station(self):
         settings = Settings(piece=6)
         station = Station(settings)
-        self.assertEqual((station.settings, station.era, station.now, station.used, station.down), (settings, 1, 0, 0, False))
+        self.assertEqual((station.settings, station.era, station.now, station.used), (settings, 1, 0, 0))
         self.assertIs(station.down, False)
         self.assertEqual((station.handles(), station.drain()), ([], []))
         self.assertEqual([Station(settings, era=era).era for era in (1, 65535)], [1, 65535])
@@ -197,7 +199,8 @@ class ConnectTest(unittest.TestCase):
         self.assertEqual(station.connect(80, source=7), 5)
 
     def test_a_pair_is_busy_in_three_states(self):
-        for state, busy in (("opening", True), ("answering", True), ("open", True), ("resting", False), ("gone", False)):
+        for state in ("opening", "answering", "open", "resting", "gone"):
+            busy = state not in ("resting", "gone")
             station = Station(Settings())
             station.connection(station.connect(80, source=7)).state = state
             if busy:
@@ -261,6 +264,28 @@ class AcceptTest(unittest.TestCase):
         station.deliver(reply(first, "AR"))
         self.assertEqual([station.accept(80), station.accept(80)], [2, None])
 
+    def test_a_connection_that_still_answers_is_not_ready(self):
+        station = Station(Settings())
+        station.listen(80)
+        station.deliver(opening())
+        answer, = sent(station)
+        self.assertEqual((station.deliver(opening()), station.accept(80)), ("taken", None))
+        self.assertEqual((station.deliver(reply(answer, "")), station.accept(80)), ("taken", None))
+        self.assertEqual((station.deliver(reply(answer)), station.deliver(reply(answer))), ("taken", "taken"))
+        self.assertEqual((station.accept(80), station.accept(80)), (1, None))
+
+    def test_what_is_gone_leaves_its_own_listener(self):
+        station = Station(Settings())
+        station.listen(80, backlog=1)
+        station.listen(81, backlog=1)
+        station.deliver(opening(port=80))
+        station.deliver(opening(port=81))
+        first, second = sent(station)
+        station.deliver(reply(first, "AR"))
+        station.deliver(reply(second))
+        self.assertEqual((station.accept(80), station.accept(81)), (None, 2))
+        self.assertEqual(station.deliver(opening(port=80)), "queued")
+
     def test_each_listener_has_its_own(self):
         station = Station(Settings())
         station.listen(80)
@@ -278,6 +303,15 @@ class AcceptTest(unittest.TestCase):
         self.assertEqual(station.connection(1).state, "answering")
         station.deliver(pack(Segment(5, 80, tag=segment.mark, mark=900, flags="SA", seq=3, ack=segment.seq + 1)))
         self.assertEqual((station.connection(1).state, station.accept(80)), ("open", None))
+
+    def test_connections_that_cross_need_no_listener(self):
+        station = Station(Settings())
+        station.connect(5, source=80)
+        segment, = sent(station)
+        self.assertEqual(station.deliver(pack(Segment(5, 80, mark=900, flags="S", seq=3))), "taken")
+        self.assertEqual(station.connection(1).state, "answering")
+        words = pack(Segment(5, 80, tag=segment.mark, mark=900, flags="SA", seq=3, ack=segment.seq + 1))
+        self.assertEqual((station.deliver(words), station.status(1)["state"]), ("taken", "open"))
 
 
 class UserCallsTest(unittest.TestCase):
@@ -297,6 +331,22 @@ class UserCallsTest(unittest.TestCase):
         self.assertEqual(pair.connection(1, server).reason, "aborted")
         pair.advance(2)
         self.assertEqual(pair.connection(0, client).reason, "reset")
+
+    def test_what_they_send_can_be_drained_at_once(self):
+        for name, values, flags in (
+            ("write", ([1],), ["A"]), ("urge", ([1],), ["AU"]), ("close", (), ["AF"]), ("abort", (), ["AR"]),
+            ("resize", (1,), ["A"]), ("read", (40,), ["A"]),
+        ):
+            station = Station(Settings(delay=0))
+            station.listen(80)
+            handle = served(station)
+            connection = station.connection(handle)
+            words = pack(Segment(5, 80, tag=connection.mark, mark=900, flags="A", seq=31, window=64, data=[7] * 40,
+                                 ack=(connection.first + 1) % 1024))
+            station.deliver(words)
+            station.drain()
+            getattr(station, name)(handle, *values)
+            self.assertEqual([segment.flags for segment in sent(station)], flags, name)
 
     def test_the_time_is_that_of_the_station(self):
         station = Station(Settings())
@@ -342,8 +392,8 @@ class UserCallsTest(unittest.TestCase):
         handle = station.connect(80)
         station.deliver(opening())
         calls = (
-            lambda value: station.write(value, None), lambda value: station.urge(value, [1]), station.close, station.abort,
-            lambda value: station.read(value, -1), lambda value: station.resize(value, 0), station.forget,
+            lambda value: station.write(value, None), lambda value: station.urge(value, [1]), station.close,
+            station.abort, lambda value: station.read(value, -1), lambda value: station.resize(value, 0), station.forget,
             station.connection, station.status,
         )
         before = look(station)
@@ -423,7 +473,8 @@ class StatusTest(unittest.TestCase):
         pair.call(1, "listen", 80)
         client = pair.call(0, "connect", 80)
         self.assertEqual(list(pair.call(0, "status", client).items()), [
-            ("state", "opening"), ("reason", ""), ("ready", 0), ("urgent", 0), ("unsent", 0), ("confirmed", 0), ("window", 0),
+            ("state", "opening"), ("reason", ""), ("ready", 0), ("urgent", 0), ("unsent", 0), ("confirmed", 0),
+            ("window", 0),
         ])
         pair.call(0, "write", client, [1] * 20)
         self.assertEqual(pair.call(0, "status", client)["unsent"], 20)

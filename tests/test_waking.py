@@ -4,7 +4,9 @@ import unittest
 
 from lossway.segments import Segment
 from lossway.spans import Spans
-from tests.ends import MARK, PEER, SOURCE, TARGET, answering, call, look, news, numbers, opened, opening, own, peer, sent
+from tests.ends import (
+    MARK, PEER, SOURCE, TARGET, answering, call, look, news, numbers, opened, opening, own, peer, sent,
+)
 from tests.test_answers import Told, flying
 
 
@@ -16,7 +18,7 @@ class ResendTest(unittest.TestCase):
     def test_an_expiry(self):
         connection = flying(12)
         connection.sacked.put(5, 9)
-        connection.resent.put(1, 5)
+        connection.resent.put(9, 13)
         connection.repeats, connection.recover, connection.peer_edge = 2, 13, 5
         connection.control.window = 4
         connection.alarms.arm("resend", 7)
@@ -135,7 +137,8 @@ class ProbeTest(unittest.TestCase):
         for number, when in ((1, 5), (2, 15), (3, 35)):
             self.assertEqual(connection.alarms.when("probe"), when)
             connection.tick(when)
-            self.assertEqual((sent(connection), connection.pokes, connection.unheard), ([("A", 0, 0, 1)], number, number))
+            self.assertEqual(sent(connection), [("A", 0, 0, 1)])
+            self.assertEqual((connection.pokes, connection.unheard), (number, number))
         self.assertEqual(connection.alarms.when("probe"), 75)
         connection.tick(75)
         self.assertEqual((connection.state, connection.reason), ("gone", "silent"))
@@ -217,6 +220,13 @@ class OthersTest(unittest.TestCase):
         before = look(connection)
         connection.tick(3)
         self.assertEqual(news(before, look(connection)), {"alarms": {}})
+
+    def test_the_pace_makes_nothing_due(self):
+        connection = opened(delay=50)
+        connection.deliver(numbers(1, 1, data=(1,)), 1)
+        connection.alarms.arm("pace", 3)
+        connection.tick(3)
+        self.assertEqual((connection.drain(), connection.owed, connection.alarms.due(99)), ([], 1, ["delay"]))
 
     def test_late_alarms_are_handled_too(self):
         connection = opened(delay=4)
