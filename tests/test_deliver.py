@@ -278,7 +278,8 @@ class CookieTest(unittest.TestCase):
     def test_each_condition(self):
         for fields, number, wrong in (
             ({"tag": 65538}, 0, 65537), ({"tag": 65538}, 0, 65539), ({"mark": 901}, 4, 900), ({}, 1, 1024),
-            ({}, 1, 4294967295), ({}, 5, 1024), ({}, 2, 11), ({"flags": ""}, 3, 8), ({"flags": "F"}, 3, 8), ({"target": 81}, 3, 8),
+            ({}, 1, 4294967295), ({}, 5, 1024), ({}, 2, 11), ({"flags": ""}, 3, 8), ({"flags": "F"}, 3, 8),
+            ({"target": 81}, 3, 8),
         ):
             station = listening(backlog=0, now=10)
             segment = cookie_of(station)

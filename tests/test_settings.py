@@ -114,7 +114,8 @@ class SettingsTest(unittest.TestCase):
         before = settings.row()
         for choices, name in (
             ({"zeta": 1, "size": 63}, "zeta"), ({"size": 128}, "inbox"), ({"piece": 3}, "least"),
-            ({"least": 7}, "least"), ({"high": 1, "piece": 0}, "piece"), ({"tell": 1}, "tell"), ({"piece": 5, "x": 1, "a": 1}, "x"),
+            ({"least": 7}, "least"), ({"high": 1, "piece": 0}, "piece"), ({"tell": 1}, "tell"),
+            ({"piece": 5, "x": 1, "a": 1}, "x"),
         ):
             self.assertEqual(caught(InvalidSetting, settings.changed, **choices), {"setting": name})
         self.assertEqual(settings.row(), before)

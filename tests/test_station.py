@@ -393,7 +393,8 @@ class UserCallsTest(unittest.TestCase):
         station.deliver(opening())
         calls = (
             lambda value: station.write(value, None), lambda value: station.urge(value, [1]), station.close,
-            station.abort, lambda value: station.read(value, -1), lambda value: station.resize(value, 0), station.forget,
+            station.abort, lambda value: station.read(value, -1), lambda value: station.resize(value, 0),
+            station.forget,
             station.connection, station.status,
         )
         before = look(station)
