@@ -51,7 +51,7 @@ class Alarms:
         times = self._times
         names = [name for name in ALARMS if name in times and times[name] <= now]
         # Sorting keeps the order of ALARMS among equal times.
-        return sorted(names, key=lambda name: times[name])
+        return sorted(names, key=lambda alarm: times[alarm])
 
     def soonest(self):
         """The least time, or None."""

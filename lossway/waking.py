@@ -72,4 +72,4 @@ def expire(connection, now):
     connection.recover = None
     connection.resent = Spans()
     fail_trial(connection)
-    connection.lost = connection.lost | Spans((connection.una, connection.top)) - connection.sacked
+    connection.lost = connection.lost | (Spans((connection.una, connection.top)) - connection.sacked)
