@@ -55,6 +55,11 @@ def is_field(name, value):
     return is_long(value)
 
 
+def heading(segment):
+    """The begin of a segment's line: its ports and its flags."""
+    return f"{segment.source:>5}>{segment.target:<5} {segment.flags:<5}"
+
+
 class Segment:
     """One segment; its thirteen fields are its attributes."""
 
@@ -111,11 +116,4 @@ class Segment:
         return isinstance(other, Segment) and self.row() == other.row()
 
     def __str__(self):
-        return " ".join([
-            f"{self.source:>5}>{self.target:<5}",
-            f"{self.flags:<5}",
-            f"seq {self.seq:>10}",
-            f"ack {self.ack:>10}",
-            f"win {self.window:>5}",
-            f"len {len(self.data):>4}",
-        ])
+        return f"{heading(self)} seq {self.seq:>10} ack {self.ack:>10} win {self.window:>5} len {len(self.data):>4}"

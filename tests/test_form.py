@@ -41,6 +41,46 @@ def nodes(kind):
     return [(name, node) for name, tree in trees() for node in ast.walk(tree) if isinstance(node, kind)]
 
 
+def attributes():
+    """The names of all attributes that some line of the package assigns."""
+    return {node.attr for _, node in nodes(ast.Attribute) if isinstance(node.ctx, ast.Store)}
+
+
+def definitions():
+    """The functions by their names, and the classes by theirs."""
+    functions = {}
+    for _, node in nodes(ast.FunctionDef):
+        functions.setdefault(node.name, []).append(node)
+    return functions, {node.name: node for _, node in nodes(ast.ClassDef)}
+
+
+def is_quiet_root(node):
+    """True for a property and for a double-underscore method that changes nothing."""
+    marks = [mark.id for mark in node.decorator_list if isinstance(mark, ast.Name)]
+    return "property" in marks or node.name.startswith("__") and node.name != "__init__"
+
+
+def called_by(function):
+    """The calls of bare names and those behind a dot."""
+    calls = [node.func for node in ast.walk(function) if isinstance(node, ast.Call)]
+    names = [node.id for node in calls if isinstance(node, ast.Name)]
+    return names, [node.attr for node in calls if isinstance(node, ast.Attribute)]
+
+
+def quiet_functions():
+    """All that the properties and the double-underscore methods run, as far as names tell."""
+    functions, classes = definitions()
+    found = [node for _, part in nodes(ast.ClassDef) for node in part.body
+             if isinstance(node, ast.FunctionDef) and is_quiet_root(node)]
+    for function in found:
+        names, methods = called_by(function)
+        reached = [node for name in names + methods for node in functions.get(name, [])]
+        makers = [node for name in names if name in classes for node in classes[name].body
+                  if isinstance(node, ast.FunctionDef) and node.name == "__init__"]
+        found.extend([node for node in reached + makers if node not in found])
+    return found
+
+
 class FormTest(unittest.TestCase):
     def test_the_folder_holds_plain_files_alone(self):
         names = [path.name for path in PACKAGE.iterdir() if path.name != "__pycache__"]
@@ -92,6 +132,27 @@ class FormTest(unittest.TestCase):
         for name, node in nodes(ast.Name):
             if node.id in named:
                 self.assertIn(node.id, BUILTINS, (name, node.lineno))
+
+    def test_what_operators_and_properties_run_calls_no_attribute(self):
+        held = attributes()
+        self.assertIn("join", held)
+        self.assertIn("__str__", [function.name for function in quiet_functions()])
+        for function in quiet_functions():
+            _, methods = called_by(function)
+            self.assertEqual([name for name in methods if name in held], [], function.name)
+
+    def test_what_operators_and_properties_run_changes_nothing(self):
+        for function in quiet_functions():
+            changed = [node for node in ast.walk(function)
+                       if isinstance(node, ast.Attribute) and isinstance(node.ctx, (ast.Store, ast.Del))]
+            self.assertEqual([node.attr for node in changed if function.name != "__init__"], [], function.name)
+
+    def test_lines_as_text_are_f_strings(self):
+        for name, node in nodes(ast.FunctionDef):
+            if node.name in ("__str__", "__repr__"):
+                returned = node.body[-1].value
+                self.assertIsInstance(returned, ast.JoinedStr, name)
+                self.assertEqual(returned.lineno, returned.end_lineno, name)
 
     def test_what_the_language_does_not_have(self):
         self.assertEqual([(name, node) for name, node in nodes(BARRED)], [])

@@ -248,6 +248,25 @@ class LineTest(unittest.TestCase):
         segment = Segment(65535, 65534, flags="SAFRU", seq=LONG, ack=LONG - 1, window=65533, data=[0] * 1400)
         self.assertEqual(str(segment), "65535>65534 SAFRU seq 4294967295 ack 4294967294 win 65533 len 1400")
 
+    def test_each_field_by_itself(self):
+        plain = str(Segment(7, 8))
+        begins = {"source": (0, 5), "target": (6, 5), "flags": (12, 5), "seq": (22, 10), "ack": (37, 10),
+                  "window": (52, 5), "data": (62, 4)}
+        shown = {
+            "source": (12345, "12345"), "target": (443, "443  "), "flags": ("SU", "SU   "), "seq": (81, "        81"),
+            "ack": (LONG, str(LONG)), "window": (4660, " 4660"), "data": ([1] * 31, "  31"),
+        }
+        for name, (value, text) in shown.items():
+            begin, width = begins[name]
+            line = str(Segment(7, 8).changed(**{name: value}))
+            self.assertEqual(line, plain[:begin] + text + plain[begin + width:], name)
+
+    def test_the_line_is_one_plain_string(self):
+        for flags in ("", "S", "SA", "A", "AF", "AR", "R", "AU", "AFU", "SAFRU"):
+            line = str(Segment(40000, 80, flags=flags, seq=1, ack=2, window=3, data=[4]))
+            self.assertIs(line.__class__, str)
+            self.assertEqual(line, "40000>80    " + flags.ljust(5) + " seq          1 ack          2 win     3 len    1")
+
     def test_narrowest(self):
         line = "    1>2           seq          0 ack          0 win     0 len    0"
         self.assertEqual(str(Segment(1, 2)), line)
