@@ -204,6 +204,11 @@ class Station:
         self._outgoing = []
         return sent
 
+    def is_waiting(self):
+        """True if a connection has an alarm other than the one that asks for a sign of life."""
+        alarms = [connection.alarms for connection in list(self._connections.values())]
+        return any([len(times) > int("alive" in times) for times in alarms])
+
     def _require_up(self):
         if self.down:
             raise StationDown()

@@ -8,7 +8,10 @@ FUNCTIONS = {
     "sums": {"check_sum": "(words)"},
     "words": {"pack": "(segment)", "unpack": "(words)"},
     "curves": {"control_of": "(kind, unit)"},
+    "replay": {"replay": "(settings, trace)"},
+    "ledgers": {"unsound": "(ledger)"},
 }
+CONSTANTS = {"sums": ("PRIME",), "alarms": ("ALARMS",), "curves": ("KINDS",), "calls": ("CALLS",)}
 CONTROL = {
     "on_ack": "(self, count, flight, now)", "grow": "(self, count, now)", "on_loss": "(self, flight, now)",
     "on_expiry": "(self, flight, now)", "on_sample": "(self, ticks)",
@@ -81,6 +84,11 @@ CLASSES = {
         "send": "(self, side, words, now)", "add_fate": "(self, side, fate)", "arrivals": "(self, now)",
         "sent": "(self, side)",
     }},
+    "world": {"World": {
+        "__init__": "(self, first, second, *, copies=2, girth=1400, plans=((), ()), common=())", "quiet": None,
+        "call": "(self, side, name, *values, **options)", "advance": "(self, count=1)", "run": "(self, limit)",
+        "trace": "(self, side)", "ledger": "(self)",
+    }},
 }
 
 
@@ -91,6 +99,11 @@ class InterfaceTest(unittest.TestCase):
                 function = getattr(import_module("lossway." + file), name)
                 self.assertEqual(function.__module__, "lossway." + file)
                 self.assertEqual(str(inspect.signature(function)), signature, name)
+
+    def test_constants(self):
+        for file, names in CONSTANTS.items():
+            for name in names:
+                self.assertIn(name, vars(import_module("lossway." + file)))
 
     def test_classes(self):
         for file, classes in CLASSES.items():
