@@ -56,3 +56,9 @@ class Alarms:
     def soonest(self):
         """The least time, or None."""
         return min(list(self._times.values()), default=None)
+
+    def copied(self):
+        """Other alarms with the same times."""
+        made = Alarms()
+        made._times = dict(self._times)
+        return made

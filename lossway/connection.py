@@ -2,6 +2,7 @@
 
 from lossway.alarms import Alarms
 from lossway.checks import is_between
+from lossway.curves import copied_control
 from lossway.errors import Broken, InvalidSetting
 from lossway.estimate import Estimate
 from lossway.inbox import Inbox
@@ -90,6 +91,56 @@ class Connection:
         self.top = self.timed_end = 1
         self.timed_at = now
         self.alarms.arm("resend", now + self.estimate.backed(0))
+
+    def copied(self):
+        """Another end in the same state."""
+        made = Connection(self.settings, self.source, self.target, self.mark, self.first, 0)
+        made.state = self.state
+        made.reason = self.reason
+        made.cookie = self.cookie
+        made.outgoing = list(self.outgoing)
+        made.outbox = self.outbox.copied()
+        made.inbox = self.inbox.copied()
+        made.estimate = self.estimate.copied()
+        made.alarms = self.alarms.copied()
+        self._copy_stream(made)
+        self._copy_peer(made)
+        return made
+
+    def _copy_stream(self, made):
+        """Tell another end what is known of the own stream."""
+        made.una = self.una
+        made.top = self.top
+        made.sacked = self.sacked.copied()
+        made.lost = self.lost.copied()
+        made.resent = self.resent.copied()
+        made.recover = self.recover
+        made.attempts = self.attempts
+        made.pokes = self.pokes
+        made.unheard = self.unheard
+        made.repeats = self.repeats
+        made.timed_end = self.timed_end
+        made.timed_at = self.timed_at
+        made.trial_low = self.trial_low
+        made.trial_high = self.trial_high
+        made.period = self.period
+        made.older = self.older
+        made.newer = self.newer
+        made.rests = self.rests
+
+    def _copy_peer(self, made):
+        """Tell another end what is known of the peer and was told to it."""
+        made.peer_mark = self.peer_mark
+        made.peer_first = self.peer_first
+        if self.control is not None:
+            made.control = copied_control(self.control)
+            made.finder = self.finder.copied()
+        made.peer_edge = self.peer_edge
+        made.greatest = self.greatest
+        made.update_seq = self.update_seq
+        made.update_ack = self.update_ack
+        made.told_edge = self.told_edge
+        made.owed = self.owed
 
     @property
     def flight(self):

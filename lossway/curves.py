@@ -118,3 +118,21 @@ def control_of(kind, unit):
     if kind == "climb":
         return Climb(unit)
     return Curve(unit) if kind == "curve" else Delay(unit)
+
+
+def copied_control(control):
+    """Another control of the same kind in the same state."""
+    made = control_of(control.KIND, control.unit)
+    made.window = control.window
+    made.threshold = control.threshold
+    made.credit = control.credit
+    made.stalled = control.stalled
+    if isinstance(control, Curve):
+        made.peak = control.peak
+        made.span = control.span
+        made.born = control.born
+    elif isinstance(control, Delay):
+        made.least = control.least
+        made.latest = control.latest
+        made.samples = control.samples
+    return made

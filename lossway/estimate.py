@@ -47,3 +47,11 @@ class Estimate:
         if not is_between(count, 0, MOST_DOUBLINGS):
             raise InvalidNumber(count)
         return min(self.high, self.timeout << count)
+
+    def copied(self):
+        """Another estimate in the same state."""
+        made = Estimate(self.low, self.high)
+        made.smooth = self.smooth
+        made.spread = self.spread
+        made.samples = self.samples
+        return made

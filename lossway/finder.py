@@ -46,3 +46,9 @@ class Finder:
         if self.strikes == MOST_STRIKES:
             self.ceiling = count - 1
             self.strikes = 0
+
+    def copied(self):
+        """Another search in the same state."""
+        made = Finder(self.size, self.ceiling)
+        made.strikes = self.strikes
+        return made

@@ -125,3 +125,19 @@ class Inbox:
     def mark_urgent(self, offset):
         """Let the urgent bytes reach up to the offset at least."""
         self.urgent_end = max(self.urgent_end, offset)
+
+    def stored(self):
+        """The bytes that were not read, as ascending pairs of an offset and a byte."""
+        return sorted(list(self._stored.items()))
+
+    def copied(self):
+        """Another buffer in the same state."""
+        made = Inbox(self.limit)
+        made.next_offset = self.next_offset
+        made.read_offset = self.read_offset
+        made.final = self.final
+        made.urgent_end = self.urgent_end
+        made._stored = dict(self._stored)
+        made._ahead = self._ahead.copied()
+        made._latest = self._latest
+        return made

@@ -16,3 +16,10 @@ class Listener:
             self.waiting.remove(handle)
         if handle in self.readied:
             self.readied.remove(handle)
+
+    def copied(self):
+        """Another listener with the same connections."""
+        made = Listener(self.backlog)
+        made.waiting = list(self.waiting)
+        made.readied = list(self.readied)
+        return made

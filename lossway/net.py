@@ -85,6 +85,10 @@ class Net:
             raise InvalidFate(side, len(plan))
         plan.append(kept(fate))
 
+    def end_common(self):
+        """Let the lists that are still to be sent have no common fates."""
+        del self._common[sum(self._counts):]
+
     def arrivals(self, now):
         """Remove the copies that have arrived and return them with the sides that receive them."""
         arrived = [flight for flight in self._flights if flight[0] <= now]

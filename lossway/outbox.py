@@ -77,3 +77,13 @@ class Outbox:
         del self._kept[:count]
         self.base = offset
         return count
+
+    def copied(self):
+        """Another buffer in the same state."""
+        made = Outbox(self.limit)
+        made.base = self.base
+        made.end = self.end
+        made.closed = self.closed
+        made.urgent_end = self.urgent_end
+        made._kept = list(self._kept)
+        return made

@@ -98,6 +98,12 @@ class Spans:
         """The runs."""
         return list(self._runs)
 
+    def copied(self):
+        """Another set of the same offsets."""
+        made = Spans()
+        made._runs = list(self._runs)
+        return made
+
     def total(self):
         """The number of offsets."""
         return sum([high - low for low, high in self._runs])

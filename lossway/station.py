@@ -10,6 +10,7 @@ from lossway.listeners import Listener
 from lossway.ring import Ring
 from lossway.segments import Segment
 from lossway.settings import Settings
+from lossway.standings import end_standing, listener_standing, station_time
 from lossway.words import pack, unpack
 
 FIRST_FREE_PORT = 40000
@@ -203,6 +204,33 @@ class Station:
         sent = self._outgoing
         self._outgoing = []
         return sent
+
+    def copied(self):
+        """Another station in the same state."""
+        made = Station(self.settings, era=self.era)
+        made.now = self.now
+        made.used = self.used
+        made.down = self.down
+        made._next_handle = self._next_handle
+        made._connections = {handle: connection.copied() for handle, connection in self._connections.items()}
+        made._handed = dict(self._handed)
+        made._listeners = {port: listener.copied() for port, listener in self._listeners.items()}
+        made._marks_made = dict(self._marks_made)
+        made._outgoing = [list(words) for words in self._outgoing]
+        return made
+
+    def standing(self):
+        """All that decides what the station will do, as one tuple."""
+        now = self.now
+        ends = [
+            (handle, handle in self._handed, *end_standing(connection, now))
+            for handle, connection in self._connections.items()
+        ]
+        listeners = [listener_standing(port, self._listeners[port]) for port in sorted(list(self._listeners))]
+        return (
+            station_time(self.settings, now), self.era, self.used, self.down, self._next_handle,
+            tuple(ends), tuple(listeners), tuple(sorted(list(self._marks_made))),
+        )
 
     def is_waiting(self):
         """True if a connection has an alarm other than the one that asks for a sign of life."""

@@ -10,8 +10,15 @@ FUNCTIONS = {
     "curves": {"control_of": "(kind, unit)"},
     "replay": {"replay": "(settings, trace)"},
     "ledgers": {"unsound": "(ledger)"},
+    "compare": {
+        "parting": "(first, second, menu, depth)", "is_parting": "(first, second, menu, run)",
+        "alike": "(first, second, menu, most)",
+    },
+    "records": {"write_record": "(desk)", "read_record": "(text)", "board": "(world)"},
 }
-CONSTANTS = {"sums": ("PRIME",), "alarms": ("ALARMS",), "curves": ("KINDS",), "calls": ("CALLS",)}
+CONSTANTS = {
+    "sums": ("PRIME",), "alarms": ("ALARMS",), "curves": ("KINDS",), "calls": ("CALLS",), "watcher": ("RULES",),
+}
 CONTROL = {
     "on_ack": "(self, count, flight, now)", "grow": "(self, count, now)", "on_loss": "(self, flight, now)",
     "on_expiry": "(self, flight, now)", "on_sample": "(self, ticks)",
@@ -89,6 +96,18 @@ CLASSES = {
         "call": "(self, side, name, *values, **options)", "advance": "(self, count=1)", "run": "(self, limit)",
         "trace": "(self, side)", "ledger": "(self)",
     }},
+    "watcher": {"Watcher": {
+        "__init__": "(self, settings)", "see_in": "(self, words)", "see_out": "(self, words)",
+    }},
+    "desk": {"Desk": {
+        "__init__": "(self, first, second, *, copies=2, girth=1400)", "do": "(self, deed)", "undo": "(self)",
+        "redo": "(self)", "deeds": "(self)", "do_all": "(self, deeds)", "trial": "(self, deeds)", "twin": "(self)",
+        "what_if": "(self, side, **choices)", "__len__": "(self)",
+    }},
+    "plays": {"Plays": {
+        "__init__": "(self, first, second, script, *, menu, depth, ticks, most=4096)", "plays": "(self)",
+        "play": "(self, choices)", "unsound": "(self)", "costliest": "(self)",
+    }},
 }
 
 
@@ -121,12 +140,14 @@ class InterfaceTest(unittest.TestCase):
             self.assertEqual(str(inspect.signature(function)), signature)
 
     def test_kinds_of_methods(self):
+        from lossway.plays import Plays
         from lossway.ring import Ring
         from lossway.segments import Segment
         from lossway.spans import Spans
         self.assertIsInstance(vars(Ring)["of_bits"], classmethod)
         self.assertIsInstance(vars(Segment)["of_row"], staticmethod)
         self.assertTrue(inspect.isgeneratorfunction(Spans.gaps))
+        self.assertTrue(inspect.isgeneratorfunction(Plays.plays))
 
 
 if __name__ == "__main__":
