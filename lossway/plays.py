@@ -91,7 +91,7 @@ class Plays:
         world = World(self._first, self._second, copies=COPIES, common=common)
         for tick in range(self._ticks + 1):
             for row in self._rows.get(tick, ()):
-                make_call(world, row)
+                attempt(world, row)
             if tick < self._ticks:
                 world.advance()
         return world
@@ -129,7 +129,7 @@ def sent_lists(world):
     return world.net.sent(0) + world.net.sent(1)
 
 
-def make_call(world, row):
+def attempt(world, row):
     """Make the call of a row; one that raises an error is passed over."""
     _, side, name, values, options = row
     try:

@@ -54,9 +54,7 @@ class Sighting:
         ack = self.own_offset(segment.ack, self.acked)
         if low < 0 or ack > self.top:
             return
-        end = low + segment.extent
-        if end > 1:
-            self.arrived.put(max(low, 1), end)
+        self.arrived.put(max(low, 1), max(low + segment.extent, 1))
         self.acked = max(self.acked, ack)
         self.peer_edge = max(self.peer_edge, ack + segment.window)
 

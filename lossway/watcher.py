@@ -97,7 +97,7 @@ class Watcher:
             return False
         if end.peer_mark is None:
             self._learn_peer(end, segment)
-        if end.peer_mark is None or end.peer_mark != segment.tag:
+        if end.peer_mark != segment.tag:
             return False
         return segment.flags != "SA" or segment.ack == self._ring.wrap(end.peer_first + 1)
 

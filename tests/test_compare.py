@@ -123,7 +123,7 @@ class PartingTest(unittest.TestCase):
         first, second = Settings(fresh=2), Settings(fresh=3)
         run = (0, 0, 0, 1, 2, 3)
         self.assertEqual(parting(first, second, menu, 6), run)
-        self.assertEqual(len(run), 6)
+        self.assertIs(is_parting(first, second, menu, run), True)
 
     def brute(self, first, second, menu, depth):
         for length in range(depth + 1):

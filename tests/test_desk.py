@@ -11,7 +11,7 @@ from lossway.errors import (
 )
 from lossway.settings import Settings
 from lossway.world import World
-from tests.values import NOT_INTEGERS, NOT_SEQUENCES, NOT_STRINGS, caught
+from tests.values import NOT_INTEGERS, NOT_SEQUENCES, NOT_STRINGS, Same, caught
 from tests.worlds import drawn_fate, look
 
 LISTEN = ("call", 1, "listen", (80,), ())
@@ -114,7 +114,8 @@ class DoTest(unittest.TestCase):
         yield from NOT_SEQUENCES
         yield from ((), [], ("tick",), ("tick", 1, 2), ("tock", 1), ("Tick", 1), ("tick", -1), ("tick", 1001), ("",))
         yield from [("tick", count) for count in NOT_INTEGERS]
-        yield from [(kind, 1) for kind in NOT_STRINGS]
+        yield from [(kind, 1) for kind in (*NOT_STRINGS, Same())]
+        yield from (("tock", 0, "crash", (), ()), (Same(), 0, "crash", (), ()), ("tock", 0, ()))
         yield from (("fate",), ("fate", 0), ("fate", 0, (), ()), ("call",), ("call", 0, "crash", ()))
         yield from (("call", 0, "crash", (), (), ()), ("call", "crash", (), ()))
         for value in NOT_SEQUENCES:

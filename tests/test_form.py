@@ -1,6 +1,7 @@
 """The form of the code: those rules of the language that a short look can check."""
 
 import ast
+import builtins
 import unittest
 from pathlib import Path
 
@@ -26,6 +27,14 @@ LIBRARY = {
                   "zip_longest"),
     "collections": ("defaultdict", "deque"),
 }
+METHODS = (
+    "append", "clear", "copy", "count", "endswith", "extend", "find", "get", "index", "insert", "isalnum", "isalpha",
+    "isdigit", "islower", "isspace", "isupper", "items", "join", "keys", "ljust", "lower", "lstrip", "partition", "pop",
+    "remove", "replace", "reverse", "rfind", "rjust", "rpartition", "rsplit", "rstrip", "setdefault", "split",
+    "splitlines", "startswith", "strip", "update", "upper", "values", "zfill", "bit_length", "title", "capitalize",
+    "swapcase", "casefold", "center", "expandtabs", "removeprefix", "removesuffix", "rindex", "isascii", "isdecimal",
+    "isnumeric", "istitle", "isidentifier", "isprintable",
+)
 BARRED = (ast.AsyncFunctionDef, ast.AsyncFor, ast.AsyncWith, ast.Await, ast.Div, ast.MatMult, ast.TryStar)
 
 
@@ -39,6 +48,20 @@ def trees():
 
 def nodes(kind):
     return [(name, node) for name, tree in trees() for node in ast.walk(tree) if isinstance(node, kind)]
+
+
+def parts(node, kind):
+    """What stands directly in a file or in a class."""
+    return [part for part in node.body if isinstance(part, kind)]
+
+
+def file_of(node):
+    """The file from which an import imports."""
+    return node.module.partition(".")[2] + ".py"
+
+
+def is_stored(node):
+    return isinstance(node.ctx, ast.Store)
 
 
 def attributes():
@@ -128,9 +151,8 @@ class FormTest(unittest.TestCase):
                 self.assertIn(node.name.strip("_"), OPERATORS, name)
 
     def test_only_the_allowed_builtins(self):
-        named = vars(__import__("builtins"))
         for name, node in nodes(ast.Name):
-            if node.id in named:
+            if node.id in vars(builtins):
                 self.assertIn(node.id, BUILTINS, (name, node.lineno))
 
     def test_what_operators_and_properties_run_calls_no_attribute(self):
@@ -146,6 +168,56 @@ class FormTest(unittest.TestCase):
             changed = [node for node in ast.walk(function)
                        if isinstance(node, ast.Attribute) and isinstance(node.ctx, (ast.Store, ast.Del))]
             self.assertEqual([node.attr for node in changed if function.name != "__init__"], [], function.name)
+
+    def test_no_variable_has_the_name_of_a_class_or_an_import_of_its_file(self):
+        for name, tree in trees():
+            taken = {alias.name for node in parts(tree, ast.ImportFrom) for alias in node.names}
+            taken |= {node.name for node in parts(tree, ast.ClassDef)} | set(vars(builtins))
+            named = [node.arg for node in ast.walk(tree) if isinstance(node, ast.arg)]
+            named += [node.id for node in ast.walk(tree) if isinstance(node, ast.Name) and is_stored(node)]
+            self.assertEqual([word for word in named if word in taken], [], name)
+
+    def test_what_is_imported_is_used_and_defined_there(self):
+        defined = {}
+        for name, tree in trees():
+            defined[name] = {node.name for node in parts(tree, (ast.FunctionDef, ast.ClassDef))}
+            defined[name] |= {node.targets[0].id for node in parts(tree, ast.Assign)}
+        for name, tree in trees():
+            used = {node.id for node in ast.walk(tree) if isinstance(node, ast.Name)}
+            for node in parts(tree, ast.ImportFrom):
+                words = {alias.name for alias in node.names}
+                self.assertLessEqual(words, used, name)
+                if node.module not in LIBRARY:
+                    self.assertLessEqual(words, defined[file_of(node)], name)
+
+    def test_no_file_imports_itself_through_others(self):
+        imported = {name: [file_of(node) for node in parts(tree, ast.ImportFrom)] for name, tree in trees()}
+        for name, files_of_it in imported.items():
+            reached = list(files_of_it)
+            for other in reached:
+                reached.extend([more for more in imported.get(other, []) if more not in reached])
+            self.assertNotIn(name, reached)
+
+    def test_methods_and_attributes_have_unequal_names(self):
+        methods = set()
+        for _, node in nodes(ast.ClassDef):
+            for part in parts(node, ast.FunctionDef):
+                if not [mark for mark in part.decorator_list if getattr(mark, "id", "") not in DECORATORS[1:]]:
+                    methods.add(part.name)
+        self.assertEqual(methods & attributes(), set())
+
+    def test_attributes_that_are_read_are_assigned(self):
+        functions, _ = definitions()
+        values = {part.targets[0].id for _, node in nodes(ast.ClassDef) for part in parts(node, ast.Assign)}
+        known = attributes() | set(functions) | values | set(METHODS) | {"setter"}
+        for name, node in nodes(ast.Attribute):
+            self.assertIn(node.attr, known, (name, node.lineno))
+
+    def test_generators_have_names_of_their_own(self):
+        functions, _ = definitions()
+        for name, rows in functions.items():
+            yields = [node for row in rows for node in ast.walk(row) if isinstance(node, (ast.Yield, ast.YieldFrom))]
+            self.assertTrue(len(yields) == 0 or len(rows) == 1, name)
 
     def test_lines_as_text_are_f_strings(self):
         for name, node in nodes(ast.FunctionDef):

@@ -84,6 +84,15 @@ class PlaysTest(unittest.TestCase):
         doubled = [((2, *rest), 3) for rest in itertools.product(range(3), repeat=2)]
         self.assertEqual(found, [*refused, ((1,), 1), *doubled])
 
+    def test_what_is_sent_behind_the_choices_has_the_plain_fate(self):
+        script = ((0, 0, "connect", (80,), ()),)
+        for choices, world in made(script, menu=((), (3,)), depth=6, ticks=2).plays():
+            other = plain_play(choices, script=script, menu=((), (3,)), ticks=2)
+            for one in (world, other):
+                one.call(0, "connect", 81)
+                one.advance(20)
+            self.assertEqual(look(world), look(other))
+
     def test_no_lists_at_all(self):
         found = [(choices, world.now) for choices, world in made((), depth=5).plays()]
         self.assertEqual(found, [((), 10)])
@@ -278,8 +287,8 @@ class WrongTest(unittest.TestCase):
         self.assertEqual(len(list(made(rows[:2], depth=0).plays())), 1)
 
     def test_the_menu(self):
-        for menu in (*NOT_SEQUENCES, (), [], (5,), ((1,), 5), ((9,),), ((0,),), ((1, 2), (1,) * 9), (((1, 2),),), (((1, 2, 0),),),
-                     (("1",),), ((True,),)):
+        for menu in (*NOT_SEQUENCES, (), [], (5,), ((1,), 5), ((9,),), ((0,),), ((1, 2), (1,) * 9), (((1, 2),),),
+                     (((1, 2, 0),),), (("1",),), ((True,),)):
             self.assertEqual(self.error(InvalidSetting, menu=menu, depth=-1), {"setting": "menu"})
         self.assertEqual(len(made(menu=[(1,) * 8, [[8, 65535, 65535]]], depth=1).costliest()), 1)
         short = Settings(life=2)

@@ -89,7 +89,8 @@ class WriteTest(unittest.TestCase):
 
         for deed in (
             ("call", 0, "write", (1, "ab"), ()), ("call", 0, "write", (1, (256,)), ()), ("tick", True), ("tick", None),
-            ("call", 0, "accept", (True,), ()), ("call", 0, "write", (1, ((1,),)), ()), ("call", 0, "write", (1.5, ()), ()),
+            ("call", 0, "accept", (True,), ()), ("call", 0, "write", (1, ((1,),)), ()), ("call", 0, "write", (1.5,
+            ()), ()),
             ("call", 0, "listen", (1,), (("backlog", False),)), ("call", 0, "listen", (1,), (("backlog", {}),)),
             ("fate", 0, ("x",)), ("fate", None, ()), ("fate", 0, ((1, None, 3),)), ("call", "0", "crash", (), ()),
             ("call", 0, "write", (1, (-1,)), ()), ("call", 0, "write", (1, b"ab"), ()),
@@ -181,8 +182,8 @@ class WrongTest(unittest.TestCase):
         self.assertEqual(self.line(record("tick x") + "tick 1"), 5)
 
     def test_title(self):
-        for title in ("lossway 2", "Lossway 1", "lossway 1 ", " lossway 1", "lossway  1", "lossway 01", "lossway", "first",
-                      "lossway 1\r"):
+        for title in ("lossway 2", "Lossway 1", "lossway 1 ", " lossway 1", "lossway  1", "lossway 01", "lossway",
+                      "first", "lossway 1\r"):
             self.assertEqual(self.line(title + HEAD[9:]), 1)
 
     def check_settings(self, words):
@@ -191,11 +192,14 @@ class WrongTest(unittest.TestCase):
 
     def test_settings(self):
         for words in (
-            " ", "  inbox=9", " inbox=9 ", " inbox=9  outbox=3", " inbox", " inbox=", " =9", " inbox=9=9", "x", " Inbox=9",
-            " outbox=3 inbox=9", " inbox=9 inbox=9", " inbox=9 inbox=8", " inbox=09", " inbox=+9", " inbox=9.0", " inbox=nine",
+            " ", "  inbox=9", " inbox=9 ", " inbox=9  outbox=3", " inbox", " inbox=", " =9", " inbox=9=9", "x",
+            " Inbox=9",
+            " outbox=3 inbox=9", " inbox=9 inbox=9", " inbox=9 inbox=8", " inbox=09", " inbox=+9", " inbox=9.0",
+            " inbox=nine",
             " inbox=-9", " inbox=0", " size=100", " control=fast", " control='curve'", " control=Curve", " join=false",
             " join=0", " seek=1", " delay=True", " delay=False", " alive=-0", " alive=none", " alive=[]", " unknown=1",
-            " self=1", " choices=1", " rest=1_0", " rest=\u0663", " rest=\u00b2", " rest=1\t", "\tinbox=9", " rest=1000000000000",
+            " self=1", " choices=1", " rest=1_0", " rest=\u0663", " rest=\u00b2", " rest=1\t", "\tinbox=9",
+            " rest=1000000000000",
             " high=1", " least=9",
         ):
             self.check_settings(words)
@@ -205,8 +209,8 @@ class WrongTest(unittest.TestCase):
             self.check_settings(f" {name}={value}")
 
     def test_causes_of_wrong_settings(self):
-        for words, name in ((" inbox=0", "inbox"), (" unknown=1", "unknown"), (" size=64", "inbox"), (" join=1", "join"),
-                            (" control=fast", "control"), (" least=9", "least")):
+        for words, name in ((" inbox=0", "inbox"), (" unknown=1", "unknown"), (" size=64", "inbox"),
+                            (" join=1", "join"), (" control=fast", "control"), (" least=9", "least")):
             cause = self.cause("lossway 1\nfirst" + words + "\nsecond\nnet copies=2 girth=1400\n")
             self.assertIsInstance(cause, InvalidSetting)
             self.assertEqual(cause.setting, name)
@@ -220,8 +224,10 @@ class WrongTest(unittest.TestCase):
     def test_the_net(self):
         for line in (
             "net", "net ", "net copies=2", "net girth=1400", "net girth=1400 copies=2", "net copies=2 girth=1400 ",
-            "net copies=2  girth=1400", " net copies=2 girth=1400", "net copies=02 girth=1400", "net copies=+2 girth=1400",
-            "net copies=2 girth=1400 x=1", "Net copies=2 girth=1400", "net copies=0 girth=1400", "net copies=9 girth=1400",
+            "net copies=2  girth=1400", " net copies=2 girth=1400", "net copies=02 girth=1400",
+            "net copies=+2 girth=1400",
+            "net copies=2 girth=1400 x=1", "Net copies=2 girth=1400", "net copies=0 girth=1400",
+            "net copies=9 girth=1400",
             "net copies=2 girth=0", "net copies=2 girth=1401", "net copies=True girth=1400", "net copies=2 girth=none",
             "net copies= girth=1400", "net 2 1400", "net copies=2,girth=1400", "net copy=2 girth=1400",
             "net x=copies=2 girth=1400",
@@ -232,9 +238,9 @@ class WrongTest(unittest.TestCase):
         self.assertEqual(cause.setting, "copies")
 
     def test_ticks(self):
-        for line in ("tick", "tick ", " tick 1", "tick  1", "tick 1 ", "tick 01", "tick +1", "tick -0", "tick 1 1", "Tick 1",
-                     "tick x", "tick none", "tick []", "tick 1.0", "tick 1\r", "tock 1", "tick 1000000000000", "tick=1",
-                     "tick \u0661", "tick 0x1", "tick 1001", "tick -1"):
+        for line in ("tick", "tick ", " tick 1", "tick  1", "tick 1 ", "tick 01", "tick +1", "tick -0", "tick 1 1",
+                     "Tick 1", "tick x", "tick none", "tick []", "tick 1.0", "tick 1\r", "tock 1", "tick=1",
+                     "tick 1000000000000", "tick \u0661", "tick 0x1", "tick 1001", "tick -1"):
             self.assertEqual(self.line(record(line)), 5, line)
         self.assertIsInstance(self.cause(record("tick 1001")), InvalidDeed)
         self.assertEqual(self.cause(record("tick -1")).deed, ("tick", -1))
@@ -242,9 +248,11 @@ class WrongTest(unittest.TestCase):
     def test_fates(self):
         for line in (
             "fate", "fate 0", "fate 0 ", "fate  0 -", "fate 0 -  ", "fate 0 - -", "fate 0 --", "fate 0 ,", "fate 0 1,",
-            "fate 0 ,1", "fate 0 1,,1", "fate 0 1, 1", "fate 0 1:", "fate 0 1:2", "fate 0 1:2:", "fate 0 1:2:3:4", "fate 0 :2:3",
+            "fate 0 ,1", "fate 0 1,,1", "fate 0 1, 1", "fate 0 1:", "fate 0 1:2", "fate 0 1:2:", "fate 0 1:2:3:4",
+            "fate 0 :2:3",
             "fate 0 01", "fate 0 +1", "fate 0 1:02:3", "fate 0 x", "fate 0 none", "fate 0 []", "fate 0 -1", "fate 0 9",
-            "fate 0 1,1,1", "fate 0 1:2:0", "fate 0 1:65536:1", "fate 2 1", "fate -1 1", "fate x 1", "fate 00 1", "Fate 0 1",
+            "fate 0 1,1,1", "fate 0 1:2:0", "fate 0 1:65536:1", "fate 2 1", "fate -1 1", "fate x 1", "fate 00 1",
+            "Fate 0 1",
             "fate 0 (1,2,3)", "fate 0 1;1", "fate 0 1000000000000",
         ):
             self.assertEqual(self.line(record(line)), 5, line)
@@ -256,7 +264,8 @@ class WrongTest(unittest.TestCase):
     def test_calls(self):
         for line in (
             "call", "call ", "call 0", "call 0 ", "call  0 crash", "call 0  crash", "call 0 crash ", "call 0 nothing",
-            "call 0 Crash", "call 2 crash", "call -1 crash", "call x crash", "call 00 crash", "Call 0 crash", "call 0 crash 1",
+            "call 0 Crash", "call 2 crash", "call -1 crash", "call x crash", "call 00 crash", "Call 0 crash",
+            "call 0 crash 1",
             "call 0 listen", "call 0 listen 080", "call 0 listen +80", "call 0 listen 0", "call 0 listen x",
             "call 0 listen none", "call 0 listen []", "call 0 listen 80 81", "call 0 listen backlog=1 80",
             "call 0 listen 80 backlog=01", "call 0 listen 80 backlog=", "call 0 listen 80 backlog=-1",
@@ -264,7 +273,8 @@ class WrongTest(unittest.TestCase):
             "call 0 listen 80 first=1", "call 0 listen 80 self=1", "call 0 listen 80 side=1", "call 0 listen 80 name=1",
             "call 0 listen 80 =1", "call 0 listen 80 backlog=1=1", "call 0 connect 80 source=7 first=5",
             "call 0 connect 80 first=5 first=6", "call 0 connect 80 first=1024", "call 0 connect 80 first=[1]",
-            "call 0 connect 80 backlog=1", "call 0 li=sten 80", "call 0 accept 80", "call 0 write 1 [1]", "call 0 read 1 1",
+            "call 0 connect 80 backlog=1", "call 0 li=sten 80", "call 0 accept 80", "call 0 write 1 [1]",
+            "call 0 read 1 1",
             "call 0 listen 1000000000000", "call 0 start", "call 0 listen 8_0", "call 0 listen \u0663",
         ):
             self.assertEqual(self.line(record(line)), 5, line)
@@ -273,7 +283,8 @@ class WrongTest(unittest.TestCase):
         opened = ("call 1 listen 80", "call 0 connect 80")
         self.assertEqual(read_record(record(*opened, "call 0 write 1 [0.255]")).deeds()[2][3], (1, (0, 255)))
         for word in (
-            "[256]", "[-1]", "[00]", "[01]", "[1.]", "[.1]", "[1..2]", "[1,2]", "[1 2]", "[ ]", "[1", "1]", "[]]", "[[]", "[[1]]",
+            "[256]", "[-1]", "[00]", "[01]", "[1.]", "[.1]", "[1..2]", "[1,2]", "[1 2]", "[ ]", "[1", "1]", "[]]",
+            "[[]", "[[1]]",
             "[none]", "[+1]", "()", "[1.2].3", "[x]", "[\u0661]", "1.2", "", "[1000000000000]",
         ):
             self.assertEqual(self.line(record(*opened, "call 0 write 1 " + word)), 7, word)
@@ -286,6 +297,12 @@ class WrongTest(unittest.TestCase):
         ):
             self.assertEqual(self.line(record(*lines)), 4 + len(lines))
             self.assertIsInstance(self.cause(record(*lines)), error)
+
+    def test_a_wrong_form_has_no_cause(self):
+        for lines in (("tick x",), ("tick 01",), ("fate 0 1,",), ("call 0 crash ",), ("call 0 listen 080",), ("",)):
+            self.assertIsNone(self.cause(record(*lines)), lines)
+        for text in ("", "lossway\n", "lossway 1\nsecond\n", "lossway 1\nFirst x=1\n", HEAD + "tick 1"):
+            self.assertIsNone(self.cause(text), text)
 
     def test_twelve_digits(self):
         opened = ("call 0 connect 80",)
@@ -356,7 +373,8 @@ class BoardTest(unittest.TestCase):
         world.advance(3)
         world.call(1, "close", 1)
         world.advance(3)
-        self.assertEqual([line.split()[2] + " " + line.split()[-1] for line in board(world)], ["resting -", "gone done"])
+        words = [line.split() for line in board(world)]
+        self.assertEqual([(row[2], row[-1]) for row in words], [("resting", "-"), ("gone", "done")])
         world.call(0, "abort", 1)
         self.assertEqual(board(world)[0], "0    1 gone      40000>80           2        2        1 done")
 

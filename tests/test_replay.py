@@ -7,7 +7,7 @@ from random import Random
 from lossway.errors import InvalidSetting, InvalidTrace
 from lossway.replay import replay
 from lossway.settings import Settings
-from tests.values import NOT_INTEGERS, NOT_SEQUENCES, NOT_STRINGS, caught
+from tests.values import NOT_INTEGERS, NOT_SEQUENCES, NOT_STRINGS, Same, caught
 from tests.worlds import drawn_world, open_world
 
 
@@ -218,9 +218,11 @@ class FormTest(unittest.TestCase):
     def test_what_is_no_event(self):
         for value in (*NOT_SEQUENCES, (), [], ("tock",), ("Tick",), ("",), ((),), "tick", (["tick"],)):
             self.check(value)
-        for kind in NOT_STRINGS:
+        for kind in (*NOT_STRINGS, Same()):
             self.check((kind,))
             self.check((kind, ()))
+            self.check((kind, "crash", (), ()))
+        self.check(("tock", "crash", (), ()))
 
     def test_ticks(self):
         self.check(("tick", 1))
@@ -240,7 +242,7 @@ class FormTest(unittest.TestCase):
     def test_calls(self):
         for rest in ((), ("crash",), ("crash", ()), ("crash", (), (), ())):
             self.check(("call", *rest))
-        for name in (*NOT_STRINGS, "", "Crash", "advance", "status"):
+        for name in (*NOT_STRINGS, Same(), "", "Crash", "advance", "status"):
             self.check(("call", name, (), ()))
         for value in NOT_SEQUENCES:
             self.check(("call", "crash", value, ()))

@@ -265,7 +265,8 @@ class LineTest(unittest.TestCase):
         for flags in ("", "S", "SA", "A", "AF", "AR", "R", "AU", "AFU", "SAFRU"):
             line = str(Segment(40000, 80, flags=flags, seq=1, ack=2, window=3, data=[4]))
             self.assertIs(line.__class__, str)
-            self.assertEqual(line, "40000>80    " + flags.ljust(5) + " seq          1 ack          2 win     3 len    1")
+            numbers = " seq          1 ack          2 win     3 len    1"
+            self.assertEqual(line, "40000>80    " + flags.ljust(5) + numbers)
 
     def test_narrowest(self):
         line = "    1>2           seq          0 ack          0 win     0 len    0"

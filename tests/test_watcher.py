@@ -462,7 +462,8 @@ class IgnoredTest(unittest.TestCase):
         self.assertEqual(made.see_out(sent(low=3, data=[1] * 2)), "edge")
 
     def test_an_answer_acknowledges_the_opening(self):
-        for words, low in ((answer(), 0), (answer(ack=2), -1), (answer(tag=MARK + 1), -1), (came("S", 0, tag=0), -1)):
+        for words, low in ((answer(), 0), (answer(ack=2), -1), (answer(tag=MARK + 1), -1), (came("S", 0, tag=0), -1),
+                           (came("S", 0, ack=1), -1)):
             made = Watcher(Settings())
             made.see_out(opening())
             made.see_in(came("S", 0, tag=0, ack=0))

@@ -13,7 +13,7 @@ from lossway.settings import Settings
 from lossway.station import Station
 from lossway.world import World
 from lossway.words import pack, unpack
-from tests.values import NOT_INTEGERS, OTHERS, caught
+from tests.values import NOT_INTEGERS, OTHERS, Same, caught
 from tests.worlds import drawn_plans, drawn_settings, lists_of, look, open_world
 
 SIDES = (-1, 2, *NOT_INTEGERS)
@@ -49,7 +49,8 @@ class MadeTest(unittest.TestCase):
         first = Settings(size=512)
         self.assertEqual(caught(InvalidSetting, World, first, Settings(life=9), copies=0), {"setting": "size"})
         self.assertEqual(caught(InvalidSetting, World, Settings(), Settings(life=9), copies=0), {"setting": "life"})
-        self.assertEqual(caught(InvalidSetting, World, Settings(), Settings(), copies=0, girth=0), {"setting": "copies"})
+        error = caught(InvalidSetting, World, Settings(), Settings(), copies=0, girth=0)
+        self.assertEqual(error, {"setting": "copies"})
 
     def test_errors_of_the_net(self):
         right = Settings(), Settings()
@@ -118,9 +119,9 @@ class CallTest(unittest.TestCase):
     def test_unknown_names(self):
         world = open_world()
         others = ("", "Listen", "listen ", "advance", "drain", "handles", "status", "connection", "deliver", "__init__")
-        for name in (*others, *OTHERS, 5, ["listen"], ("listen",)):
+        for name in (*others, *OTHERS, 5, ["listen"], ("listen",), Same()):
             for values in ((), (80,), (80, 81)):
-                self.assertEqual(caught(InvalidDeed, world.call, 0, name, *values), {"deed": name})
+                self.assertIs(caught(InvalidDeed, world.call, 0, name, *values)["deed"], name)
 
     def test_another_number_of_values(self):
         world = open_world()
@@ -135,7 +136,8 @@ class CallTest(unittest.TestCase):
         for name in NAMES:
             for option in ("backlog", "source", "first", "port", "handle", "target", "era"):
                 if option not in allowed.get(name, ()):
-                    self.assertEqual(caught(InvalidDeed, world.call, 0, name, *RIGHT[name], **{option: 1}), {"deed": name})
+                    error = caught(InvalidDeed, world.call, 0, name, *RIGHT[name], **{option: 1})
+                    self.assertEqual(error, {"deed": name})
 
     def test_python_refuses_names_of_parameters(self):
         world = open_world()
