@@ -95,7 +95,7 @@ def parting(first, second, menu, depth):
                 if made.parted:
                     return made.path
                 # Cookies are valid for a time, so here the time itself counts, too.
-                if left > 0 and is_new(met, (made.first.now, made.standing())):
+                if left > 0 and is_new(met, (made.first.now, *made.standing())):
                     later.append(made)
         pairs = later
     return None

@@ -21,7 +21,7 @@ def segment_of(words):
 
 
 class Watcher:
-    """A judge who sees only the words that arrive at a station and those that it sends."""
+    """A judge that sees only the words that arrive at a station and those that it sends."""
 
     def __init__(self, settings):
         self.blame = None
@@ -90,7 +90,7 @@ class Watcher:
         return rule
 
     def _has_right_tag(self, end, segment):
-        """True if a segment names the peer of an end, who is learnt now if he was not known."""
+        """True if a segment names the peer of an end, which is learnt now if it was not known."""
         if segment.flags == "S":
             return segment.tag == 0
         if "S" in segment.flags and segment.flags != "SA" or "A" not in segment.flags:
@@ -102,7 +102,7 @@ class Watcher:
         return segment.flags != "SA" or segment.ack == self._ring.wrap(end.peer_first + 1)
 
     def _learn_peer(self, end, segment):
-        """Let an end know the peer that its segment names, if he has sent an opening."""
+        """Let an end know the peer that its segment names, if that peer has sent an opening."""
         opening = self._openings.get((segment.source, segment.target, segment.tag))
         if opening is not None:
             first, window, piece = opening

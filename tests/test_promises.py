@@ -256,7 +256,9 @@ class FairTest(unittest.TestCase):
         self.assertEqual(len(users), many, seed)
         for user in users:
             end = user.end()
-            self.assertEqual((end.state, end.reason), ("gone", "done"), seed)
+            self.assertEqual(end.state, "gone", seed)
+            # An end whose last acknowledgement was lost may find that its peer has rested and gone.
+            self.assertIn(end.reason, ("done", "reset"), seed)
             peer, = [other for other in users if other.side != user.side and other.end().mark == end.peer_mark]
             self.assertEqual(user.read, peer.stream, seed)
 

@@ -46,7 +46,8 @@ class StandingTest(unittest.TestCase):
         self.check_plain(opened().standing(), 1)
 
     def check_plain(self, value, depth):
-        self.assertLessEqual(depth, 8)
+        # Two standings and a number beside them make a key, which is at most eight deep.
+        self.assertLessEqual(depth, 6)
         if isinstance(value, tuple):
             for item in value:
                 self.check_plain(item, depth + 1 if isinstance(item, tuple) else depth)

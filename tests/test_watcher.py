@@ -46,7 +46,7 @@ def answer(**fields):
 
 
 def watcher(**choices):
-    """A watcher who has seen an opening and its answer."""
+    """A watcher that has seen an opening and its answer."""
     made = Watcher(Settings(**choices))
     made.see_out(opening())
     made.see_in(answer())
