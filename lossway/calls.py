@@ -19,11 +19,13 @@ def is_call(name, values, options):
 
 def call_station(station, name, values, options):
     """Make an allowed call at a station and return its result."""
+    # A range has a `start` of its own, and a method of such a name may only be called where it stands.
+    if name == "start":
+        return station.start()
     methods = {
         "listen": station.listen, "unlisten": station.unlisten, "connect": station.connect, "accept": station.accept,
         "write": station.write, "urge": station.urge, "read": station.read, "close": station.close,
         "abort": station.abort, "resize": station.resize, "forget": station.forget, "crash": station.crash,
-        "start": station.start,
     }
     method = methods[name]
     if name in OPTIONS:

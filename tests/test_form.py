@@ -3,6 +3,7 @@
 import ast
 import builtins
 import unittest
+from collections import defaultdict, deque
 from pathlib import Path
 
 PACKAGE = Path(__file__).resolve().parent.parent / "lossway"
@@ -34,6 +35,11 @@ METHODS = (
     "splitlines", "startswith", "strip", "update", "upper", "values", "zfill", "bit_length", "title", "capitalize",
     "swapcase", "casefold", "center", "expandtabs", "removeprefix", "removesuffix", "rindex", "isascii", "isdecimal",
     "isnumeric", "istitle", "isidentifier", "isprintable",
+)
+# The kinds of builtin values. Generators are left out, as nothing in the language can be asked of one by a name.
+VALUES = (
+    str, int, bool, bytes, list, tuple, dict, set, frozenset, range, slice, None.__class__, {}.keys().__class__,
+    {}.values().__class__, {}.items().__class__, deque, defaultdict, enumerate, zip, reversed, map,
 )
 BARRED = (ast.AsyncFunctionDef, ast.AsyncFor, ast.AsyncWith, ast.Await, ast.Div, ast.MatMult, ast.TryStar)
 
@@ -67,6 +73,17 @@ def is_stored(node):
 def attributes():
     """The names of all attributes that some line of the package assigns."""
     return {node.attr for _, node in nodes(ast.Attribute) if isinstance(node.ctx, ast.Store)}
+
+
+def handed_on(tree, held=()):
+    """The lines and names of what is read off an object without a call by a name that a builtin value has.
+
+    `held` are the names of attributes, which are no methods.
+    """
+    names = {name for kind in VALUES for name in dir(kind)} - set(held)
+    called = {id(node.func) for node in ast.walk(tree) if isinstance(node, ast.Call)}
+    read = [node for node in ast.walk(tree) if isinstance(node, ast.Attribute) and isinstance(node.ctx, ast.Load)]
+    return [(node.lineno, node.attr) for node in read if id(node) not in called and node.attr in names]
 
 
 def definitions():
@@ -212,6 +229,34 @@ class FormTest(unittest.TestCase):
         known = attributes() | set(functions) | values | set(METHODS) | {"setter"}
         for name, node in nodes(ast.Attribute):
             self.assertIn(node.attr, known, (name, node.lineno))
+
+    def test_no_method_with_the_name_of_a_builtin_value_is_handed_on(self):
+        held = attributes()
+        for name, tree in trees():
+            self.assertEqual(handed_on(tree, held), [], name)
+
+    def test_a_method_that_is_handed_on_is_found(self):
+        for name in ("start", "stop", "step", "count", "index", "copy", "real", "pop", "append", "join", "keys"):
+            for line in (
+                "f = box.{0}", "f = box.inner.{0}", "rows = [1, box.{0}]", "rows = (box.{0},)",
+                "rows = {{'a': box.{0}}}", "use(box.{0})", "use(key=box.{0})", "use(*box.{0})",
+                "box.held = box.{0}", "box.{0} == None", "box.{0}.other()", "rows[0].{0}[1]",
+                "def use():\n    return box.{0}", "f = lambda: box.{0}", "[box.{0} for box in boxes]", "f'{{box.{0}}}'",
+                "if box.{0}:\n    pass",
+            ):
+                found = handed_on(ast.parse(line.format(name)))
+                self.assertEqual([word for _, word in found], [name], line)
+
+    def test_it_is_found_among_methods_that_may_be_handed_on(self):
+        source = "def call(station):\n    return {\n'listen': station.listen,\n'start': station.start,\n}"
+        self.assertEqual(handed_on(ast.parse(source), attributes()), [(4, "start")])
+        self.assertEqual(handed_on(ast.parse(source.replace("station.start", "station.crash")), attributes()), [])
+
+    def test_what_may_be_read_is_not_found(self):
+        for line in ("box.start()", "f = box.start()", "box.inner.start(1)", "f = box.listen", "start = stop",
+                     "use(start=1)", "'box.start'", "box.rows.append(box.count(1))", "box.start = 1"):
+            self.assertEqual(handed_on(ast.parse(line)), [], line)
+        self.assertEqual(handed_on(ast.parse("f = box.join"), ["join"]), [])
 
     def test_generators_have_names_of_their_own(self):
         functions, _ = definitions()
